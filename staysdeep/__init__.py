@@ -1,0 +1,1 @@
+"""Staysdeep: stacks, a timetable, and who must stay below."""
