@@ -18,7 +18,7 @@ def _has_way(yard, standing, stack, other):
     return len(standing[stack]) > 0 and len(standing[other]) < yard.heights[other]
 
 
-def _after_move(standing, stack, other):
+def after_move(standing, stack, other):
     """The standing behind a move that can be done."""
     piles = list(standing)
     piles[stack] = standing[stack][:-1]
@@ -35,7 +35,7 @@ def walk_standings(yard, standing, walk):
     for at, move in enumerate(walk):
         if not _is_told_move(yard, move) or not _has_way(yard, way[-1], move[0], move[1]):
             raise InvalidMove(at)
-        way.append(_after_move(way[-1], move[0], move[1]))
+        way.append(after_move(way[-1], move[0], move[1]))
     return tuple(way)
 
 

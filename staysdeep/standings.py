@@ -25,14 +25,15 @@ def _is_pile(value, height):
     return isinstance(value, tuple) and len(value) <= height and all([is_name(box) for box in value])
 
 
-def _count_boxes(standing):
+def count_boxes(standing):
+    """The number of the boxes."""
     return sum([len(pile) for pile in standing])
 
 
 def free_places(yard, standing):
     """The number of places in which no box lies."""
     need_standing(yard, standing)
-    return places(yard) - _count_boxes(standing)
+    return places(yard) - count_boxes(standing)
 
 
 def boxes_of(standing):
@@ -62,7 +63,7 @@ def boxes_above(standing, box):
 def deep_boxes(yard, standing):
     """The lot of pairs (place, box) of the deep places."""
     need_standing(yard, standing)
-    deep = deep_places(yard, _count_boxes(standing))
+    deep = deep_places(yard, count_boxes(standing))
     return tuple([((stack, level), standing[stack][level]) for stack, level in deep])
 
 

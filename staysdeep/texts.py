@@ -5,12 +5,13 @@ from staysdeep.atoms import is_name
 from staysdeep.yards import FEWEST_STACKS, GREATEST_HEIGHT, MOST_STACKS, Yard
 
 
-def _need_text(value):
+def need_text(value):
+    """Raises `InvalidText(-1)` for what is no string."""
     if not isinstance(value, str):
         raise InvalidText(-1)
 
 
-def _parts(text, sign):
+def parts(text, sign):
     """What stands between the signs; the empty text has no parts."""
     return text.split(sign) if text else []
 
@@ -27,8 +28,8 @@ def yard_text(yard):
 
 def read_yard(text):
     """The yard that has this text."""
-    _need_text(text)
-    words = _parts(text, " ")
+    need_text(text)
+    words = parts(text, " ")
     known = _number_words(1, GREATEST_HEIGHT)
     for at, word in enumerate(words):
         if at == MOST_STACKS or word not in known:
@@ -45,12 +46,12 @@ def standing_text(standing):
 
 def read_standing(text):
     """The standing that has this text."""
-    _need_text(text)
+    need_text(text)
     lines = text.split("\n")
     seen = set()
     standing = []
     for at, line in enumerate(lines):
-        pile = _parts(line, " ")
+        pile = parts(line, " ")
         if at == MOST_STACKS or len(pile) > GREATEST_HEIGHT:
             raise InvalidText(at)
         for box in pile:
@@ -70,10 +71,10 @@ def walk_text(walk):
 
 def read_walk(text):
     """The walk that has this text."""
-    _need_text(text)
+    need_text(text)
     known = _number_words(0, MOST_STACKS - 1)
     walk = []
-    for at, line in enumerate(_parts(text, "\n")):
+    for at, line in enumerate(parts(text, "\n")):
         words = line.split(" ")
         if len(words) != 2 or words[0] == words[1] or any([word not in known for word in words]):
             raise InvalidText(at)

@@ -29,6 +29,29 @@ INTERFACE = {
         "walk_standings": "yard standing walk", "walked": "yard standing walk", "moved": "yard standing move",
         "lifted": "yard standing walk", "moves_from": "yard standing", "walk_back": "walk", "bare_walk": "walk",
     },
+    "classes": {
+        "deep_part": "yard standing", "same_class": "yard one other", "parting_place": "yard one other",
+        "count_classes": "yard boxes", "rest_yard": "yard boxes", "class_size": "yard boxes",
+        "nth_class": "yard lot number", "class_number": "yard standing", "nth_in_class": "yard standing number",
+        "number_in_class": "yard standing",
+    },
+    "walks": {
+        "walk_between": "yard one other", "shortest_walk": "yard one other", "farthest": "yard boxes",
+    },
+    "digs": {
+        "can_dig": "yard standing box", "can_shift": "yard standing box", "dig_walk": "yard standing box",
+        "shift_walk": "yard standing box", "lying_places": "yard standing box", "wish_walk": "yard standing box stack",
+        "wishes_walk": "yard standing wishes",
+    },
+    "timetables": {
+        "need_timetable": "yard value", "timetable_boxes": "timetable", "state_boxes": "timetable state",
+        "free_counts": "yard timetable", "presence": "timetable box", "presences": "timetable",
+        "timetable_text": "timetable", "read_timetable": "text",
+    },
+    "stretches": {
+        "owed": "yard cover", "stretches": "yard timetable cover", "stretch_at": "yard timetable cover state",
+        "stayers": "yard timetable stretch", "balances": "yard timetable",
+    },
 }
 ERRORS = {
     "YardError": "", "InvalidYard": "at", "InvalidStanding": "at", "InvalidMove": "at", "InvalidTimetable": "at",
@@ -36,7 +59,13 @@ ERRORS = {
     "Refused": "word", "NoName": "name",
 }
 STANDING = (("a", "b"), ("c",), ())
-TEXTS = {"read_yard": "2 1 1", "read_standing": "a b\nc\n", "read_walk": "0 2\n1 0"}
+TIMETABLE = (("in", "b"), ("in", "a"), ("in", "c"), ("out", "b"), ("in", "d"))
+# Arguments of one function that are not those of `samples`.
+SPECIAL = {
+    "read_yard": {"text": "2 1 1"}, "read_standing": {"text": "a b\nc\n"}, "read_walk": {"text": "0 2\n1 0"},
+    "read_timetable": {"text": "in a\nin b\nout a"}, "need_timetable": {"value": TIMETABLE},
+    "nth_class": {"number": 2}, "nth_in_class": {"number": 3},
+}
 
 
 def samples(heights):
@@ -44,7 +73,8 @@ def samples(heights):
     return {
         "heights": heights, "yard": Yard(heights), "stack": 1, "level": 0, "cover": 1, "boxes": 3,
         "value": STANDING, "standing": STANDING, "box": "a", "lot": ("a", "b", "c"), "number": 17,
-        "walk": ((0, 2), (1, 0), (2, 1)), "move": (0, 2),
+        "walk": ((0, 2), (1, 0), (2, 1)), "move": (0, 2), "one": STANDING, "other": (("a", "c"), (), ("b",)),
+        "wishes": (("c", 0), ("b", 2)), "timetable": TIMETABLE, "state": 3, "stretch": (1, 3),
     }
 
 
@@ -54,7 +84,7 @@ def calls():
     for module, functions in INTERFACE.items():
         for name, words in functions.items():
             call = getattr(importlib.import_module("staysdeep." + module), name)
-            good = {**samples((2, 1, 1)), "text": TEXTS.get(name)}
+            good = {**samples((2, 1, 1)), **SPECIAL.get(name, {})}
             told.append((call, {word: good[word] for word in words.split()}))
     return told
 
@@ -134,13 +164,18 @@ class TestCalls(Checks):
             if "yard" in arguments:
                 listed = {**arguments, "yard": Yard([2, 1, 1])}
                 self.assertEqual(shown(call(**listed)), shown(call(**arguments)))
+        for call, arguments in calls():
+            for word in ("lot", "stretch", "wishes"):
+                if word in arguments:
+                    listed = {**arguments, word: list(arguments[word])}
+                    self.assertEqual(shown(call(**listed)), shown(call(**arguments)))
 
 
 class TestKinds(unittest.TestCase):
 
     def check_plain(self, value):
-        """Integers, strings and None, in tuples."""
-        self.assertIn(type(value), (int, str, tuple, type(None)))
+        """Integers, bools, strings and None, in tuples."""
+        self.assertIn(type(value), (int, bool, str, tuple, type(None)))
         if type(value) is tuple:
             for thing in value:
                 self.check_plain(thing)
@@ -148,14 +183,18 @@ class TestKinds(unittest.TestCase):
     def test_what_is_returned(self):
         for call, arguments in calls():
             found = call(**arguments)
-            if call.__name__ in ("Yard", "read_yard"):
+            if call.__name__ in ("Yard", "read_yard", "rest_yard"):
                 self.assertIs(type(found), Yard)
                 self.check_plain(found.heights)
+            elif call.__name__ in ("same_class", "can_dig", "can_shift"):
+                self.assertIs(type(found), bool)
             else:
                 self.check_plain(found)
+                self.assertNotIsInstance(found, bool)
 
     def test_lots_are_ascending_without_duplicates(self):
-        lots = ("layer", "deep_places", "boxes_of", "deep_boxes", "lifted", "moves_from")
+        lots = ("layer", "deep_places", "boxes_of", "deep_boxes", "lifted", "moves_from", "lying_places",
+                "timetable_boxes", "state_boxes", "presences", "stretches", "stayers", "balances")
         seen = 0
         for call, arguments in calls():
             if call.__name__ in lots:
@@ -170,14 +209,19 @@ class TestLimits(Checks):
     def test_the_tallest_yard_in_reasonable_time(self):
         boxes = names(144)
         full = tuple([boxes[at:at + 12] for at in range(0, 144, 12)])
+        comings = [("in", box) for box in boxes]
+        timetable = tuple(comings + [("out", box) for box in boxes[::-1][:56]])
         good = {
             **samples(TALLEST), "value": full, "standing": full, "lot": boxes, "box": boxes[-1], "boxes": 144,
-            "number": 10 ** 199, "walk": (),
+            "number": 10 ** 199, "walk": (), "one": full, "other": full, "wishes": ((boxes[11], 0), (boxes[143], 11)),
+            "timetable": timetable, "state": 200, "stretch": (0, 200),
         }
+        special = {"need_timetable": {"value": timetable}, "nth_in_class": {"number": 0}, "wish_walk": {"stack": 11}}
         with self.within(10):
             for call, arguments in calls():
                 if "text" not in arguments and "move" not in arguments:
-                    call(**{word: good[word] for word in arguments})
+                    told = {**good, **special.get(call.__name__, {})}
+                    call(**{word: told[word] for word in arguments})
 
 
 if __name__ == "__main__":

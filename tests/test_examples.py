@@ -1,4 +1,4 @@
-"""The examples at the end of section 3, and those of the README."""
+"""The examples at the ends of sections 3 and 4, and those of the README."""
 
 import doctest
 import pathlib
@@ -24,6 +24,19 @@ SECTION_3 = """
     ((0, 1),)
 """
 
+SECTION_4 = """
+    >>> from staysdeep.classes import class_size, count_classes
+    >>> from staysdeep.digs import dig_walk, shift_walk, wish_walk
+    >>> from staysdeep.yards import Yard
+    >>> yard, standing = Yard((3, 2, 1)), (("a", "b"), ("c", "d"), ())
+    >>> count_classes(yard, 4), class_size(yard, 4)
+    (4, 30)
+    >>> dig_walk(yard, standing, "a"), shift_walk(yard, standing, "a")
+    (((0, 2),), None)
+    >>> wish_walk(yard, standing, "c", 0), wish_walk(yard, standing, "b", 1)
+    (((1, 2), (1, 0)), ((1, 2), (0, 1)))
+"""
+
 
 class TestExamples(unittest.TestCase):
 
@@ -36,6 +49,9 @@ class TestExamples(unittest.TestCase):
 
     def test_section_3(self):
         self.check_examples(SECTION_3, "section 3")
+
+    def test_section_4(self):
+        self.check_examples(SECTION_4, "section 4")
 
     def test_readme(self):
         self.check_examples(README.read_text(encoding="utf-8"), "README.md")

@@ -45,6 +45,7 @@ BARRED_WORDS = re.compile(
     r"\b(type|typing|typing_extensions|enum|Enum|IntEnum|StrEnum|Flag|IntFlag|Generic|Protocol|ABC|ABCMeta|namedtuple"
     r"|NamedTuple|TypedDict|TYPE_CHECKING|abstractmethod)\b|dataclass|overload|contextmanager"
 )
+CHANGING = set("append clear extend insert pop remove reverse setdefault update sort add discard".split())
 BARRED_STARTS = ("_wall", "_pe_", "_dcw_", "_enum_", "_cm_", "_twin_re_", "_lay_", "_law_", "_stub_", "_sre", "__")
 
 
@@ -82,6 +83,39 @@ def defined_names(tree):
 
 def imported_names(tree):
     return [alias.name for node in tree.body if isinstance(node, ast.ImportFrom) for alias in node.names]
+
+
+def library_names(tree):
+    froms = [node for node in tree.body if isinstance(node, ast.ImportFrom) and node.module in LIBRARY]
+    return [alias.name for node in froms for alias in node.names]
+
+
+def functions_of(tree):
+    return [node for node in ast.walk(tree) if isinstance(node, ast.FunctionDef)]
+
+
+def parents_of(tree):
+    return {child: node for node in ast.walk(tree) for child in ast.iter_child_nodes(node)}
+
+
+def called_name(node):
+    """The bare name that is called, or the empty string."""
+    return node.func.id if isinstance(node, ast.Call) and isinstance(node.func, ast.Name) else ""
+
+
+def is_set(node):
+    return isinstance(node, (ast.Set, ast.SetComp)) or called_name(node) == "set"
+
+
+def changed_names(statements):
+    """The names of what is changed in some statements: by an item, or by a method that changes."""
+    names = set()
+    for node in [inner for statement in statements for inner in ast.walk(statement)]:
+        if isinstance(node, ast.Subscript) and not isinstance(node.ctx, ast.Load):
+            names.add(ast.unparse(node.value))
+        if isinstance(node, ast.Call) and isinstance(node.func, ast.Attribute) and node.func.attr in CHANGING:
+            names.add(ast.unparse(node.func.value))
+    return names
 
 
 class TestFiles(unittest.TestCase):
@@ -237,6 +271,51 @@ class TestCode(unittest.TestCase):
             for node in ast.walk(tree):
                 if isinstance(node, (ast.Assign, ast.Return)) and isinstance(node.value, ast.Call):
                     self.assertNotIn(getattr(node.value.func, "id", ""), barred, (path, node.lineno))
+
+    def test_what_a_loop_goes_over_is_not_changed_in_it(self):
+        for path, tree in trees():
+            for node in ast.walk(tree):
+                if isinstance(node, ast.For):
+                    parts = [part for part in ast.walk(node.iter) if isinstance(part, (ast.Name, ast.Attribute))]
+                    over = set(map(ast.unparse, parts))
+                    self.assertFalse(over & changed_names(node.body), (path, node.lineno))
+
+    def test_library_functions_are_only_called(self):
+        for path, tree in trees():
+            parents = parents_of(tree)
+            for node in ast.walk(tree):
+                if isinstance(node, ast.Name) and node.id in library_names(tree):
+                    call = parents[node]
+                    self.assertEqual(called_name(call), node.id, (path, node.lineno))
+                    self.assertEqual(call.keywords, [], (path, node.lineno))
+
+    def test_where_sets_stand(self):
+        for path, tree in trees():
+            parents = parents_of(tree)
+            for node in ast.walk(tree):
+                if is_set(node):
+                    above = parents[node]
+                    stands = isinstance(above, (ast.Assign, ast.Compare, ast.BinOp))
+                    self.assertTrue(stands or called_name(above) in ("sorted", "len"), (path, node.lineno))
+            for function in functions_of(tree):
+                for node in ast.walk(function):
+                    if isinstance(node, ast.Assign) and is_set(node.value):
+                        self.check_stored_set(function, node.targets, parents)
+
+    def check_stored_set(self, function, targets, parents):
+        """A set that is kept: it is assigned once, and used as the rule tells."""
+        self.assertEqual([target.__class__ for target in targets], [ast.Name])
+        named = [node for node in ast.walk(function) if isinstance(node, ast.Name) and node.id == targets[0].id]
+        self.assertEqual(len([node for node in named if isinstance(node.ctx, ast.Store)]), 1, function.name)
+        for node in [node for node in named if isinstance(node.ctx, ast.Load)]:
+            above = parents[node]
+            if isinstance(above, ast.Attribute):
+                self.assertIn(above.attr, ("add", "discard"), function.name)
+                self.assertIsInstance(parents[parents[above]], ast.Expr, function.name)
+            elif isinstance(above, ast.Compare):
+                self.assertIsInstance(above.ops[0], (ast.In, ast.NotIn, ast.Eq, ast.NotEq), function.name)
+            else:
+                self.assertTrue(called_name(above) in ("len", "sorted") or isinstance(above, (ast.If, ast.While)))
 
     def test_classes_with_equality_only_in_the_plain_form(self):
         for path, tree in trees():

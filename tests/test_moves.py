@@ -7,36 +7,11 @@ from staysdeep.errors import InvalidMove, InvalidStanding
 from staysdeep.moves import bare_walk, lifted, moved, moves_from, walk_back, walk_standings, walked
 from staysdeep.standings import deep_boxes
 from staysdeep.yards import Yard
-from tests.helpers import TALLEST, Checks, any_values, every_standing, names
+from tests.helpers import TALLEST, Checks, any_values, every_standing, names, plain_move, plain_walk
 
 YARDS = ((2, 1, 1), (1, 2, 2), (1, 1, 1, 1))
 WALKERS = (walked, walk_standings, lifted)
 THREE_STACKS = [(stack, other) for stack in range(3) for other in range(3) if stack != other]
-
-
-def plain_move(heights, standing, move):
-    """The standing behind a move, reckoned plainly; None if it cannot be done."""
-    if type(move) is not tuple or len(move) != 2 or [type(at) for at in move] != [int, int]:
-        return None
-    if move[0] == move[1] or not set(move) <= set(range(len(heights))):
-        return None
-    piles = [list(pile) for pile in standing]
-    if not piles[move[0]] or len(piles[move[1]]) == heights[move[1]]:
-        return None
-    piles[move[1]].append(piles[move[0]].pop())
-    return tuple([tuple(pile) for pile in piles])
-
-
-def plain_walk(heights, standing, walk):
-    """(all standings, the boxes moved one after another), or the number of the first wrong move."""
-    way, boxes = [standing], []
-    for at, move in enumerate(walk):
-        behind = plain_move(heights, way[-1], move)
-        if behind is None:
-            return at
-        boxes.append(way[-1][move[0]][-1])
-        way.append(behind)
-    return way, boxes
 
 
 def plain_bare(walk, last_first):
