@@ -9,15 +9,26 @@ def owed(yard, cover):
     return sum([max(0, height - cover) for height in yard.heights])
 
 
-def stretches(yard, timetable, cover):
+def _rows_below(counts, cover):
     """The longest rows of states with at most so many free places, as pairs (first, last), ascending."""
     found = []
-    for state, free in enumerate(free_counts(yard, timetable)):
+    for state, free in enumerate(counts):
         if free <= cover:
             goes_on = len(found) > 0 and found[-1][1] == state - 1
             first = found.pop()[0] if goes_on else state
             found.append((first, state))
     return tuple(found)
+
+
+def stretches(yard, timetable, cover):
+    """All stretches of a cover, ascending."""
+    return _rows_below(free_counts(yard, timetable), cover)
+
+
+def all_stretches(yard, timetable):
+    """The pairs of a cover that a place has and a stretch of it, ascending."""
+    counts = free_counts(yard, timetable)
+    return [(cover, stretch) for cover in range(max(yard.heights)) for stretch in _rows_below(counts, cover)]
 
 
 def stretch_at(yard, timetable, cover, state):
@@ -30,26 +41,27 @@ def stretch_at(yard, timetable, cover, state):
     return None
 
 
-def _staying(spans, stretch):
-    """The boxes of these presences that are there in all states of a stretch."""
+def need_stretch(timetable, stretch):
+    """Raises `InvalidSize("stretch")` for a pair of integers that are no states, or go back."""
+    first, last = stretch
+    if not 0 <= first <= last <= len(timetable):
+        raise InvalidSize("stretch")
+
+
+def staying(spans, stretch):
+    """The lot of the boxes of these presences, ascending, that are there in all states of a stretch."""
     return tuple([box for box, first, last in spans if first <= stretch[0] and stretch[1] <= last])
 
 
 def stayers(yard, timetable, stretch):
     """The lot of the boxes that are there in all states from the first to the last one of a pair."""
     need_timetable(yard, timetable)
-    first, last = stretch
-    if not 0 <= first <= last <= len(timetable):
-        raise InvalidSize("stretch")
-    return _staying(presences(timetable), stretch)
+    need_stretch(timetable, stretch)
+    return staying(presences(timetable), stretch)
 
 
 def balances(yard, timetable):
     """For each cover that a place has, and each of its stretches, how many more boxes stay than are owed."""
-    need_timetable(yard, timetable)
+    told = all_stretches(yard, timetable)
     spans = presences(timetable)
-    told = []
-    for cover in range(max(yard.heights)):
-        for stretch in stretches(yard, timetable, cover):
-            told.append((cover, stretch, len(_staying(spans, stretch)) - owed(yard, cover)))
-    return tuple(told)
+    return tuple([(cover, stretch, len(staying(spans, stretch)) - owed(yard, cover)) for cover, stretch in told])

@@ -16,7 +16,7 @@ def parts(text, sign):
     return text.split(sign) if text else []
 
 
-def _number_words(first, last):
+def number_words(first, last):
     """The numbers from the first to the last one, as `str` writes them."""
     return [str(number) for number in range(first, last + 1)]
 
@@ -30,7 +30,7 @@ def read_yard(text):
     """The yard that has this text."""
     need_text(text)
     words = parts(text, " ")
-    known = _number_words(1, GREATEST_HEIGHT)
+    known = number_words(1, GREATEST_HEIGHT)
     for at, word in enumerate(words):
         if at == MOST_STACKS or word not in known:
             raise InvalidText(at)
@@ -72,7 +72,7 @@ def walk_text(walk):
 def read_walk(text):
     """The walk that has this text."""
     need_text(text)
-    known = _number_words(0, MOST_STACKS - 1)
+    known = number_words(0, MOST_STACKS - 1)
     walk = []
     for at, line in enumerate(parts(text, "\n")):
         words = line.split(" ")

@@ -16,10 +16,13 @@ def is_event(value):
     return value[0] in (COMING, GOING) and is_name(value[1])
 
 
-def _first_wrong(events, room):
-    """The number of the first thing that is no event, or cannot be done with so many places; None without one."""
-    came = set()
-    there = set()
+def _first_wrong(events, room, boxes):
+    """The number of the first thing that is no event, or cannot be done; None without one.
+
+    There are so many places, and at first these boxes.
+    """
+    came = set(boxes)
+    there = set(boxes)
     for at, event in enumerate(events):
         if not is_event(event):
             return at
@@ -36,13 +39,18 @@ def _first_wrong(events, room):
     return None
 
 
-def need_timetable(yard, value):
-    """Returns None for a timetable of the yard, and raises `InvalidTimetable` for any other value."""
+def need_events(value, room, boxes):
+    """Raises `InvalidTimetable` for what is no tuple of events with so many places, and at first these boxes."""
     if not isinstance(value, tuple):
         raise InvalidTimetable(-1)
-    at = _first_wrong(value, places(yard))
+    at = _first_wrong(value, room, boxes)
     if at is not None:
         raise InvalidTimetable(at)
+
+
+def need_timetable(yard, value):
+    """Returns None for a timetable of the yard, and raises `InvalidTimetable` for any other value."""
+    need_events(value, places(yard), [])
 
 
 def need_state(timetable, state):
@@ -100,7 +108,7 @@ def read_timetable(text):
     """The timetable that has this text; of how many places is not asked."""
     need_text(text)
     events = [tuple(line.split(" ")) for line in parts(text, "\n")]
-    at = _first_wrong(events, len(events))
+    at = _first_wrong(events, len(events), [])
     if at is not None:
         raise InvalidText(at)
     return tuple(events)

@@ -6,9 +6,15 @@ import inspect
 import unittest
 
 from staysdeep import errors
+from staysdeep.court import Dealt, Short, court
+from staysdeep.dues import Crowd
+from staysdeep.kinds import Given, Lacking, kinds_court, last_come
+from staysdeep.mirrors import emptied
+from staysdeep.rule import rule_plan
 from staysdeep.yards import Yard
 from tests.helpers import TALLEST, Checks, names
 
+PAPERS = (Dealt, Short, Crowd, Given, Lacking)
 # The parameters of each function, as the points name them.
 INTERFACE = {
     "yards": {
@@ -52,16 +58,72 @@ INTERFACE = {
         "owed": "yard cover", "stretches": "yard timetable cover", "stretch_at": "yard timetable cover state",
         "stayers": "yard timetable stretch", "balances": "yard timetable",
     },
+    "court": {
+        "Dealt": "table", "Short": "cover stretch stayers", "shorts": "yard timetable", "court": "yard timetable",
+        "check_court": "yard timetable value", "kept_at": "dealt state", "dealings_count": "yard timetable",
+        "stuck_event": "yard timetable",
+    },
+    "mirrors": {"mirror": "timetable", "mirror_paper": "timetable paper", "emptied": "yard timetable"},
+    "plans": {
+        "need_plan": "yard value", "run_plan": "yard plan", "plan_events": "plan", "plan_states": "yard plan",
+        "plan_moves": "plan", "does_plan": "yard timetable value", "plan_text": "plan", "read_plan": "text",
+        "plan_paper": "yard plan", "plan_mirror": "plan", "bare_plan": "plan", "switched_plan": "yard one other state",
+    },
+    "mover": {"plan_for": "yard timetable dealt", "moves_above": "yard timetable"},
+    "rule": {
+        "leaving_order": "timetable state", "rule_steps": "yard standing event order", "rule_plan": "yard timetable",
+    },
+    "lines": {"longest_line": "timetable", "moves_below": "yard timetable", "fewest_plan": "yard timetable"},
+    "goings": {
+        "need_goings": "yard standing value", "wait_of": "yard standing box", "ready": "yard standing number",
+        "stuck_going": "yard standing goings", "going_steps": "yard standing goings", "count_goings": "yard boxes many",
+        "goings_at": "yard standing many number", "goings_number": "yard standing goings",
+        "count_sources": "yard boxes many",
+    },
+    "dues": {"Crowd": "first end boxes", "due_order": "yard standing dues", "check_dues": "yard standing dues value"},
+    "kinds": {
+        "Given": "choice table", "Lacking": "cover stretch leasts", "need_requests": "yard value",
+        "kind_counts": "requests kind", "least_there": "requests kind stretch", "is_choice": "requests value",
+        "count_choices": "requests", "choice_at": "requests number", "choice_number": "requests choice",
+        "last_come": "requests", "first_come": "requests", "kinds_court": "yard requests",
+        "check_kinds": "yard requests value", "bad_choice": "yard requests", "may_take": "yard requests taken",
+        "count_possible": "yard requests",
+    },
+    "joined": {
+        "need_marks": "yard value", "marks": "yard timetable", "marks_come": "yard table",
+        "goes_on": "yard table events", "marks_behind": "yard table events", "may_go": "yard table",
+        "past_with": "yard table", "count_marks": "yard boxes", "as_good": "yard one other",
+        "parting": "yard one other", "every_weave": "yard one other", "some_weave": "yard one other",
+        "count_weaves": "yard one other",
+    },
 }
 ERRORS = {
     "YardError": "", "InvalidYard": "at", "InvalidStanding": "at", "InvalidMove": "at", "InvalidTimetable": "at",
     "InvalidPlan": "at", "InvalidText": "at", "InvalidOrder": "at", "InvalidSize": "word", "InvalidCommand": "",
     "Refused": "word", "NoName": "name",
 }
+WHETHER = ("same_class", "can_dig", "can_shift", "check_court", "does_plan", "check_dues", "is_choice", "check_kinds",
+           "marks_come", "as_good")
 STANDING = (("a", "b"), ("c",), ())
 TIMETABLE = (("in", "b"), ("in", "a"), ("in", "c"), ("out", "b"), ("in", "d"))
+ROWS = (((0, 0), (3, 3), "a"), ((0, 0), (5, 5), "a"))
+PLAN = (("in", "b", 1), ("in", "a", 0), ("in", "c", 2), ("out", "b", 1), ("in", "d", 1), ("move", 1, 0))
+WORN = (("in", "a", 0), ("move", 0, 1), ("out", "a", 1))
+REQUESTS = (("in", "b", "y"), ("in", "a", "x"), ("in", "c", "x"), ("out", "x"), ("in", "d", "y"), ("out", "y"))
+CHOICE = (("in", "b"), ("in", "a"), ("in", "c"), ("out", "a"), ("in", "d"), ("out", "b"))
+FULL, OTHER = (("a", 2), ("b", 1), ("c", 1), ("d", 1)), (("a", 1), ("b", 2), ("c", 1), ("d", 1))
+PAIR = {"one": TIMETABLE, "other": (("in", "x"), ("out", "x"))}
 # Arguments of one function that are not those of `samples`.
 SPECIAL = {
+    "read_plan": {"text": "in a 0\nmove 0 1\nout a 1"}, "check_court": {"value": Dealt(ROWS)},
+    "need_plan": {"value": PLAN}, "does_plan": {"value": PLAN}, "switched_plan": {"one": PLAN, "other": PLAN},
+    "mirror": {"timetable": TIMETABLE[:1] + (("out", "b"),)}, "plan_mirror": {"plan": WORN},
+    "mirror_paper": {"timetable": TIMETABLE[:1] + (("out", "b"),)}, "need_goings": {"value": ("c", "b")},
+    "goings_at": {"number": 1}, "check_dues": {"value": ("c", "b", "a")}, "need_requests": {"value": REQUESTS},
+    "is_choice": {"value": CHOICE}, "choice_at": {"number": 2}, "check_kinds": {"value": Lacking(1, (0, 0), ())},
+    "need_marks": {"value": FULL}, "as_good": {"one": FULL, "other": OTHER}, "parting": {"one": FULL, "other": OTHER},
+    "every_weave": PAIR, "some_weave": PAIR, "count_weaves": PAIR, "Crowd": {"boxes": ("a",)}, "Dealt": {"table": ROWS},
+    "Given": {"table": ROWS},
     "read_yard": {"text": "2 1 1"}, "read_standing": {"text": "a b\nc\n"}, "read_walk": {"text": "0 2\n1 0"},
     "read_timetable": {"text": "in a\nin b\nout a"}, "need_timetable": {"value": TIMETABLE},
     "nth_class": {"number": 2}, "nth_in_class": {"number": 3},
@@ -74,7 +136,11 @@ def samples(heights):
         "heights": heights, "yard": Yard(heights), "stack": 1, "level": 0, "cover": 1, "boxes": 3,
         "value": STANDING, "standing": STANDING, "box": "a", "lot": ("a", "b", "c"), "number": 17,
         "walk": ((0, 2), (1, 0), (2, 1)), "move": (0, 2), "one": STANDING, "other": (("a", "c"), (), ("b",)),
-        "wishes": (("c", 0), ("b", 2)), "timetable": TIMETABLE, "state": 3, "stretch": (1, 3),
+        "wishes": (("c", 0), ("b", 2)), "timetable": TIMETABLE, "state": 3, "stretch": (1, 3), "dealt": Dealt(ROWS),
+        "stayers": ("a", "b"), "paper": Dealt(ROWS), "plan": PLAN, "event": ("in", "d"), "order": ("b", "a", "d", "c"),
+        "goings": ("c", "b"), "many": 2, "dues": (("a", 3), ("c", 1)), "first": 1, "end": 2, "requests": REQUESTS,
+        "kind": "x", "choice": CHOICE, "taken": CHOICE[:3], "leasts": (("x", 1), ("y", 0)), "table": FULL,
+        "events": (("out", "b"), ("in", "e")),
     }
 
 
@@ -91,7 +157,11 @@ def calls():
 
 def shown(value):
     """A value as plain text, with all kinds in it."""
-    return f"Yard({value.heights!r})" if isinstance(value, Yard) else repr(value)
+    if isinstance(value, (Yard,) + PAPERS):
+        return f"{value.__class__.__name__}({vars(value)!r})"
+    if isinstance(value, (list, tuple)):
+        return value.__class__.__name__ + "(" + ", ".join([shown(thing) for thing in value]) + ")"
+    return repr(value)
 
 
 def shown_all(arguments):
@@ -166,7 +236,7 @@ class TestCalls(Checks):
                 self.assertEqual(shown(call(**listed)), shown(call(**arguments)))
         for call, arguments in calls():
             for word in ("lot", "stretch", "wishes"):
-                if word in arguments:
+                if word in arguments and not inspect.isclass(call):
                     listed = {**arguments, word: list(arguments[word])}
                     self.assertEqual(shown(call(**listed)), shown(call(**arguments)))
 
@@ -174,7 +244,9 @@ class TestCalls(Checks):
 class TestKinds(unittest.TestCase):
 
     def check_plain(self, value):
-        """Integers, bools, strings and None, in tuples."""
+        """Integers, bools, strings and None, in tuples; or papers of such."""
+        if type(value) in PAPERS:
+            value = tuple(vars(value).values())
         self.assertIn(type(value), (int, bool, str, tuple, type(None)))
         if type(value) is tuple:
             for thing in value:
@@ -186,7 +258,7 @@ class TestKinds(unittest.TestCase):
             if call.__name__ in ("Yard", "read_yard", "rest_yard"):
                 self.assertIs(type(found), Yard)
                 self.check_plain(found.heights)
-            elif call.__name__ in ("same_class", "can_dig", "can_shift"):
+            elif call.__name__ in WHETHER:
                 self.assertIs(type(found), bool)
             else:
                 self.check_plain(found)
@@ -194,7 +266,8 @@ class TestKinds(unittest.TestCase):
 
     def test_lots_are_ascending_without_duplicates(self):
         lots = ("layer", "deep_places", "boxes_of", "deep_boxes", "lifted", "moves_from", "lying_places",
-                "timetable_boxes", "state_boxes", "presences", "stretches", "stayers", "balances")
+                "timetable_boxes", "state_boxes", "presences", "stretches", "stayers", "balances", "kept_at", "ready",
+                "may_take", "marks", "marks_behind", "may_go")
         seen = 0
         for call, arguments in calls():
             if call.__name__ in lots:
@@ -211,13 +284,33 @@ class TestLimits(Checks):
         full = tuple([boxes[at:at + 12] for at in range(0, 144, 12)])
         comings = [("in", box) for box in boxes]
         timetable = tuple(comings + [("out", box) for box in boxes[::-1][:56]])
+        kinds = [("in", box, "xyz"[at % 3]) for at, box in enumerate(boxes)]
+        requests = tuple(kinds + [("out", "xyz"[at % 3]) for at in range(56)])
+        table, yard = tuple([(box, 12) for box in boxes[:132]] + [(box, 144 - 132 - at) for at, box in enumerate(boxes[132:])]), Yard(TALLEST)
+        plan = rule_plan(yard, timetable)
         good = {
             **samples(TALLEST), "value": full, "standing": full, "lot": boxes, "box": boxes[-1], "boxes": 144,
             "number": 10 ** 199, "walk": (), "one": full, "other": full, "wishes": ((boxes[11], 0), (boxes[143], 11)),
-            "timetable": timetable, "state": 200, "stretch": (0, 200),
+            "timetable": timetable, "state": 200, "stretch": (0, 200), "dealt": court(yard, timetable), "plan": plan,
+            "event": ("out", boxes[-1]), "order": boxes, "goings": boxes[11::12] + boxes[10::12], "many": 144,
+            "dues": tuple([(box, 1000) for box in boxes]), "requests": requests, "table": table, "taken": timetable[:144],
+            "events": (("out", boxes[-1]),) + tuple([(word, boxes[0] + "xyz"[at % 3] + boxes[at // 3]) for at in range(99) for word in ("in", "out")]),
         }
-        special = {"need_timetable": {"value": timetable}, "nth_in_class": {"number": 0}, "wish_walk": {"stack": 11}}
-        with self.within(10):
+        weave = {"one": (("in", "a"), ("out", "a")) * 1, "other": tuple([("in", box) for box in boxes[:8]])}
+        special = {
+            "need_timetable": {"value": timetable}, "nth_in_class": {"number": 0}, "wish_walk": {"stack": 11},
+            "mirror": {"timetable": emptied(yard, timetable[:100])}, "check_court": {"value": court(yard, timetable)},
+            "mirror_paper": {"timetable": emptied(yard, timetable[:100]), "paper": court(yard, timetable[:100])},
+            "need_plan": {"value": plan}, "does_plan": {"value": plan}, "switched_plan": {"one": plan[:40], "other": plan[:40], "state": 40},
+            "plan_mirror": {"plan": rule_plan(yard, emptied(yard, timetable[:100]))}, "leaving_order": {"state": 144},
+            "fewest_plan": {"timetable": (("in", "a"), ("out", "a"))}, "need_goings": {"value": boxes},
+            "check_dues": {"value": boxes}, "need_requests": {"value": requests}, "is_choice": {"value": last_come(requests)},
+            "choice_at": {"number": 10 ** 60}, "choice_number": {"choice": last_come(requests)},
+            "check_kinds": {"value": kinds_court(yard, requests)}, "count_possible": {"requests": requests[:145]},
+            "need_marks": {"value": table}, "as_good": {"one": table, "other": table}, "parting": {"one": table, "other": table},
+            "every_weave": weave, "some_weave": weave, "count_weaves": weave, "goings_at": {"many": 144},
+        }
+        with self.within(30):
             for call, arguments in calls():
                 if "text" not in arguments and "move" not in arguments:
                     told = {**good, **special.get(call.__name__, {})}

@@ -1,10 +1,20 @@
-"""The examples at the ends of sections 3 and 4, and those of the README."""
+"""The examples of sections 1 and 3 to 7, those of section 11 for module `joined`, and those of the README."""
 
 import doctest
 import pathlib
 import unittest
 
 README = pathlib.Path(__file__).resolve().parent.parent / "README.md"
+
+SECTION_1 = """
+    >>> from staysdeep.yards import Yard
+    >>> from staysdeep.court import court
+    >>> yard = Yard((2, 1, 1))
+    >>> words = "in a in b in c in d out a in e out b in f out c".split()
+    >>> short = court(yard, tuple(zip(words[::2], words[1::2])))
+    >>> short.cover, short.stretch, short.stayers
+    (1, (3, 9), ())
+"""
 
 SECTION_3 = """
     >>> from staysdeep.moves import bare_walk, lifted, moves_from, walked
@@ -37,6 +47,70 @@ SECTION_4 = """
     (((1, 2), (1, 0)), ((1, 2), (0, 1)))
 """
 
+SECTION_5 = """
+    >>> from staysdeep.yards import Yard
+    >>> from staysdeep.court import court, dealings_count, stuck_event
+    >>> from staysdeep.mirrors import emptied
+    >>> yard = Yard((2, 1, 1))
+    >>> words = "in a in b in c in d out a in e out b in f out c".split()
+    >>> timetable = tuple(zip(words[::2], words[1::2]))
+    >>> stuck_event(yard, timetable), emptied(yard, timetable[:8])[8:]
+    (8, (('out', 'd'), ('out', 'e'), ('out', 'f'), ('out', 'c')))
+    >>> court(yard, timetable[:4]).table
+    (((0, 0), (3, 4), 'a'), ((0, 1), (4, 4), 'b'), ((1, 0), (4, 4), 'c'), ((2, 0), (4, 4), 'd'))
+    >>> dealings_count(yard, timetable[:4])
+    18
+"""
+
+SECTION_6 = """
+    >>> from staysdeep.yards import Yard
+    >>> from staysdeep.lines import fewest_plan, longest_line, moves_below
+    >>> from staysdeep.plans import plan_events, plan_moves, plan_paper, read_plan
+    >>> from staysdeep.rule import leaving_order
+    >>> yard = Yard((2, 1, 1))
+    >>> plan = read_plan("in a 1\\nin b 0\\nin c 2\\nin d 0\\nout a 1\\nmove 0 1\\nout b 0\\nout c 2")
+    >>> plan_paper(yard, plan).table
+    (((0, 0), (3, 5), 'b'), ((0, 1), (4, 4), 'd'), ((1, 0), (4, 4), 'a'), ((2, 0), (4, 4), 'c'))
+    >>> leaving_order(plan_events(plan), 4)
+    ('a', 'b', 'c', 'd')
+    >>> longest_line(plan_events(plan)), moves_below(yard, plan_events(plan))
+    (('a', 'b', 'c', 'd'), 1)
+    >>> plan_moves(fewest_plan(yard, plan_events(plan)))
+    1
+"""
+
+SECTION_7 = """
+    >>> from staysdeep.dues import due_order
+    >>> from staysdeep.goings import count_goings, goings_at, ready, stuck_going
+    >>> from staysdeep.kinds import count_choices, first_come, last_come, may_take
+    >>> from staysdeep.yards import Yard
+    >>> yard, standing = Yard((2, 1, 1)), (("a", "b"), ("c",), ("d",))
+    >>> ready(yard, standing, 0), stuck_going(yard, standing, ("c", "a")), count_goings(yard, 4, 4)
+    (('b', 'c', 'd'), None, 18)
+    >>> goings_at(yard, standing, 4, 0), due_order(yard, standing, (("a", 1),)).first
+    (('b', 'a', 'c', 'd'), 1)
+    >>> comings = tuple([("in", box, "x") for box in "abcdef"])
+    >>> requests = comings[:4] + (("out", "x"), comings[4], ("out", "x"), comings[5], ("out", "x"))
+    >>> last_come(requests)[-1], first_come(requests)[-1], count_choices(requests)
+    (('out', 'f'), ('out', 'c'), 64)
+    >>> may_take(yard, requests, first_come(requests)[:8])
+    ('d', 'e', 'f')
+"""
+
+SECTION_11 = """
+    >>> from staysdeep.yards import Yard
+    >>> from staysdeep.joined import count_marks, goes_on, marks, may_go
+    >>> yard = Yard((2, 1, 1))
+    >>> words = "in a in b in c in d out a in e out b in f out c".split()
+    >>> events = tuple(zip(words[::2], words[1::2]))
+    >>> marks(yard, events[:6]), goes_on(yard, marks(yard, events[:6]), events[6:])
+    ((('b', 2), ('c', 2), ('d', 1), ('e', 1)), 2)
+    >>> may_go(yard, marks(yard, events[:6])), may_go(yard, marks(yard, events[:8]))
+    (('b', 'c', 'd', 'e'), ('d', 'e', 'f'))
+    >>> count_marks(yard, 4), count_marks(yard, 3)
+    (14, 7)
+"""
+
 
 class TestExamples(unittest.TestCase):
 
@@ -47,11 +121,26 @@ class TestExamples(unittest.TestCase):
         doctest.DocTestRunner().run(test, out=told.append)
         self.assertEqual("".join(told), "")
 
+    def test_section_1(self):
+        self.check_examples(SECTION_1, "section 1")
+
     def test_section_3(self):
         self.check_examples(SECTION_3, "section 3")
 
     def test_section_4(self):
         self.check_examples(SECTION_4, "section 4")
+
+    def test_section_5(self):
+        self.check_examples(SECTION_5, "section 5")
+
+    def test_section_6(self):
+        self.check_examples(SECTION_6, "section 6")
+
+    def test_section_7(self):
+        self.check_examples(SECTION_7, "section 7")
+
+    def test_section_11(self):
+        self.check_examples(SECTION_11, "section 11")
 
     def test_readme(self):
         self.check_examples(README.read_text(encoding="utf-8"), "README.md")

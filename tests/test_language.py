@@ -321,7 +321,8 @@ class TestCode(unittest.TestCase):
         for path, tree in trees():
             for node in ast.walk(tree):
                 if isinstance(node, ast.FunctionDef) and node.name == "__eq__":
-                    text = ast.unparse(node.body[-1])
+                    # Behind the first sign `and` the parts may be shown in parentheses.
+                    text = re.sub(r"\((self\.\w+ == other\.\w+)\)", r"\1", ast.unparse(node.body[-1]))
                     self.assertEqual(len(node.body), 1, path)
                     self.assertRegex(text, r"^return isinstance\(other, \w+\)( and self\.(\w+) == other\.\2)+$")
 

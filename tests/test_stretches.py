@@ -1,6 +1,5 @@
 """Point 19: stretches, who stays through them, and what is owed."""
 
-import random
 import unittest
 
 from staysdeep.errors import InvalidSize
@@ -8,27 +7,10 @@ from staysdeep.stretches import balances, owed, stayers, stretch_at, stretches
 from staysdeep.timetables import free_counts
 from staysdeep.yards import Yard, cover_of, deep_places, layer, places
 from tests.helpers import (
-    SMALL_YARDS, TALLEST, Checks, all_timetables, drawn_timetable, drawn_yard, names, plain_states,
+    SMALL_YARDS, TALLEST, Checks, all_timetables, names, plain_stayers, plain_stretches, some_timetables,
 )
 
 YARDS = ((1, 1, 1), (2, 1, 1), (1, 2, 3))
-
-
-def plain_stretches(total, timetable, cover):
-    """All rows of states with so few free places that cannot be made longer."""
-    fits = [total - len(there) <= cover for there in plain_states(timetable)]
-    found = []
-    for first in range(len(fits)):
-        for last in range(first, len(fits)):
-            ends = (first == 0 or not fits[first - 1]) and (last == len(fits) - 1 or not fits[last + 1])
-            if ends and all(fits[first:last + 1]):
-                found.append((first, last))
-    return tuple(found)
-
-
-def plain_stayers(timetable, first, last):
-    states = plain_states(timetable)[first:last + 1]
-    return tuple(sorted(box for box in states[0] if all(box in there for there in states)))
 
 
 def plain_balances(heights, timetable):
@@ -38,16 +20,6 @@ def plain_balances(heights, timetable):
         for first, last in plain_stretches(sum(heights), timetable, cover):
             told.append((cover, (first, last), len(plain_stayers(timetable, first, last)) - needs))
     return tuple(told)
-
-
-def some_timetables(seed, many, events=200):
-    """Yards of all kinds with timetables that keep them rather full."""
-    draw = random.Random(seed)
-    told = []
-    for _ in range(many):
-        yard = drawn_yard(draw, heights=(1, 2, 3, 5), stacks=(3, 4, 5))
-        told.append((yard, drawn_timetable(draw, places(yard), events)))
-    return told
 
 
 class TestStretches(Checks):
