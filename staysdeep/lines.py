@@ -47,7 +47,7 @@ def moves_below(yard, timetable):
 
 
 def _with_moves(yard, found):
-    """For each standing that moves lead to from these ones a plan of the fewest moves up to it."""
+    """For each standing that moves lead to from these ones a plan of the fewest moves; those with fewer come first."""
     told = {}
     queue = [(plan_moves(plan), standing, plan) for standing, plan in found.items()]
     heapify(queue)
@@ -76,9 +76,8 @@ def _behind_event(yard, found, event):
     told = {}
     for standing, plan in found.items():
         for step in _steps_of(yard, standing, event):
-            behind = after_step(standing, step)
-            if behind not in told or plan_moves(plan) < plan_moves(told[behind]):
-                told[behind] = plan + (step,)
+            # What is found with more moves comes later, and does not take its place.
+            told.setdefault(after_step(standing, step), plan + (step,))
     return told
 
 

@@ -279,38 +279,48 @@ class TestKinds(unittest.TestCase):
 
 class TestLimits(Checks):
 
-    def test_the_tallest_yard_in_reasonable_time(self):
-        boxes = names(144)
+    def great(self):
+        """Great arguments by the names of the parameters, for the tallest yard."""
+        boxes, yard = names(144), Yard(TALLEST)
         full = tuple([boxes[at:at + 12] for at in range(0, 144, 12)])
-        comings = [("in", box) for box in boxes]
-        timetable = tuple(comings + [("out", box) for box in boxes[::-1][:56]])
+        timetable = tuple([("in", box) for box in boxes] + [("out", box) for box in boxes[::-1][:56]])
         kinds = [("in", box, "xyz"[at % 3]) for at, box in enumerate(boxes)]
-        requests = tuple(kinds + [("out", "xyz"[at % 3]) for at in range(56)])
-        table, yard = tuple([(box, 12) for box in boxes[:132]] + [(box, 144 - 132 - at) for at, box in enumerate(boxes[132:])]), Yard(TALLEST)
-        plan = rule_plan(yard, timetable)
-        good = {
+        comers = [boxes[0] + letter + box for box in boxes[:33] for letter in "xyz"]
+        return {
             **samples(TALLEST), "value": full, "standing": full, "lot": boxes, "box": boxes[-1], "boxes": 144,
             "number": 10 ** 199, "walk": (), "one": full, "other": full, "wishes": ((boxes[11], 0), (boxes[143], 11)),
-            "timetable": timetable, "state": 200, "stretch": (0, 200), "dealt": court(yard, timetable), "plan": plan,
-            "event": ("out", boxes[-1]), "order": boxes, "goings": boxes[11::12] + boxes[10::12], "many": 144,
-            "dues": tuple([(box, 1000) for box in boxes]), "requests": requests, "table": table, "taken": timetable[:144],
-            "events": (("out", boxes[-1]),) + tuple([(word, boxes[0] + "xyz"[at % 3] + boxes[at // 3]) for at in range(99) for word in ("in", "out")]),
+            "timetable": timetable, "state": 200, "stretch": (0, 200), "dealt": court(yard, timetable),
+            "plan": rule_plan(yard, timetable), "event": ("out", boxes[-1]), "order": boxes, "many": 144,
+            "goings": boxes[11::12] + boxes[10::12], "dues": tuple([(box, 1000) for box in boxes]),
+            "requests": tuple(kinds + [("out", "xyz"[at % 3]) for at in range(56)]), "taken": timetable[:144],
+            "table": tuple([(box, min(12, 144 - at)) for at, box in enumerate(boxes)]),
+            "events": (("out", boxes[-1]),) + tuple([(word, box) for box in comers for word in ("in", "out")]),
         }
-        weave = {"one": (("in", "a"), ("out", "a")) * 1, "other": tuple([("in", box) for box in boxes[:8]])}
-        special = {
+
+    def great_for(self, good):
+        """Other great arguments, by the names of functions."""
+        boxes, yard, timetable = good["lot"], good["yard"], good["timetable"]
+        plan, requests, table = good["plan"], good["requests"], good["table"]
+        weave = {"one": (("in", "a"), ("out", "a")), "other": tuple([("in", box) for box in boxes[:8]])}
+        tables, whole = {"one": table, "other": table}, emptied(yard, timetable[:100])
+        return {
             "need_timetable": {"value": timetable}, "nth_in_class": {"number": 0}, "wish_walk": {"stack": 11},
-            "mirror": {"timetable": emptied(yard, timetable[:100])}, "check_court": {"value": court(yard, timetable)},
-            "mirror_paper": {"timetable": emptied(yard, timetable[:100]), "paper": court(yard, timetable[:100])},
-            "need_plan": {"value": plan}, "does_plan": {"value": plan}, "switched_plan": {"one": plan[:40], "other": plan[:40], "state": 40},
-            "plan_mirror": {"plan": rule_plan(yard, emptied(yard, timetable[:100]))}, "leaving_order": {"state": 144},
+            "mirror": {"timetable": whole}, "check_court": {"value": court(yard, timetable)},
+            "mirror_paper": {"timetable": whole, "paper": court(yard, timetable[:100])},
+            "need_plan": {"value": plan}, "does_plan": {"value": plan}, "plan_mirror": {"plan": rule_plan(yard, whole)},
+            "switched_plan": {"one": plan[:40], "other": plan[:40], "state": 40}, "leaving_order": {"state": 144},
             "fewest_plan": {"timetable": (("in", "a"), ("out", "a"))}, "need_goings": {"value": boxes},
-            "check_dues": {"value": boxes}, "need_requests": {"value": requests}, "is_choice": {"value": last_come(requests)},
-            "choice_at": {"number": 10 ** 60}, "choice_number": {"choice": last_come(requests)},
+            "check_dues": {"value": boxes}, "need_requests": {"value": requests}, "choice_at": {"number": 10 ** 60},
+            "is_choice": {"value": last_come(requests)}, "choice_number": {"choice": last_come(requests)},
             "check_kinds": {"value": kinds_court(yard, requests)}, "count_possible": {"requests": requests[:145]},
-            "need_marks": {"value": table}, "as_good": {"one": table, "other": table}, "parting": {"one": table, "other": table},
-            "every_weave": weave, "some_weave": weave, "count_weaves": weave, "goings_at": {"many": 144},
+            "need_marks": {"value": table}, "as_good": tables, "parting": tables, "goings_at": {"many": 144},
+            "every_weave": weave, "some_weave": weave, "count_weaves": weave,
         }
+
+    def test_the_tallest_yard_in_reasonable_time(self):
         with self.within(30):
+            good = self.great()
+            special = self.great_for(good)
             for call, arguments in calls():
                 if "text" not in arguments and "move" not in arguments:
                     told = {**good, **special.get(call.__name__, {})}

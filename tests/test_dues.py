@@ -207,6 +207,12 @@ class TestCheckDues(Checks):
                       Crowd(0, 0, ()), (0, 1, ("c", "d")), Crowd(10 ** 30, 10 ** 30, ()), Crowd(0, 10 ** 30, ("c", "d"))):
             self.assertIs(check_dues(YARD, STANDING, dues, value), False)
 
+    def test_numbers_below_0(self):
+        dues = (("d", 1), ("c", 1), ("b", 1))
+        self.assertIs(check_dues(YARD, STANDING, dues, Crowd(0, 1, ("b", "c", "d"))), True)
+        self.assertIs(check_dues(YARD, STANDING, dues, Crowd(-1, 1, ("b", "c", "d"))), False)
+        self.assertIs(check_dues(YARD, STANDING, dues, Crowd(-2, -1, ())), False)
+
     def test_any_value(self):
         for value in any_values() + strange_papers():
             self.assertIs(check_dues(yard=YARD, standing=STANDING, dues=(("a", 1),), value=value), False)

@@ -558,6 +558,10 @@ class TestWeaves(Checks):
         self.assertRaises(InvalidTimetable, need_timetable, yard, bad)
         self.assert_same((some_weave(yard, one, other) is None, count_weaves(yard, one, other)), (False, 4))
         self.assert_same(count_weaves(yard, one[:2], other), 0)
+        # Nobody goes behind it, either.
+        bad = every_weave(yard, one[:2], other)
+        self.assertTrue(is_weave(one[:2], other, bad))
+        self.assertRaises(InvalidTimetable, need_timetable, yard, bad)
 
     def test_what_is_refused(self):
         calls = (every_weave, some_weave, count_weaves)

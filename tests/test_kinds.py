@@ -466,6 +466,9 @@ class TestCountPossible(Checks):
         seven = tuple([("in", box, "y") for box in "abcdefg"]) + (("out", "y"), ("out", "x"), ("in", "z", "x"))
         self.assertEqual(count_choices(eleven[:7] + seven + (("out", "x"),)), 343)
         self.assert_told(InvalidSize, "requests", count_possible, wide, eleven[:7] + seven + (("out", "x"),))
+        odd = tuple([("in", box, "x" if at < 43 else "y") for at, box in enumerate(names(50))]) + (("out", "x"), ("out", "y"))
+        self.assertEqual(count_choices(odd), 301)
+        self.assert_told(InvalidSize, "requests", count_possible, Yard(TALLEST), odd)
         self.assert_same(count_possible(yard=yard, requests=six + (("out", "x"),) * 3), 120)
 
     def test_the_example(self):

@@ -176,6 +176,18 @@ class TestFewestPlan(Checks):
             timetable = tuple([(word, box) for box in names(20) for word in ("in", "out")])
             self.check_plan(TALLEST, timetable, 0)
 
+    def test_moves_that_pay_later(self):
+        # Here the fewest moves up to an early event are not those of the best plan.
+        for heights, words, fewest in (
+            ((1, 3, 1), "in g in d in j in h in i out d out j in c out i out g in k", 1),
+            ((3, 1, 1), "in k in c in h in e in d out c out k in f out f out d in l in i out h", 2),
+            ((1, 3, 1), "in h in b in a in i in g out b out h out g in m in l in j out m in f out a", 3),
+            ((3, 1, 1), "in d out d in i out i in g in k in a in l in p out k in n out n out g out p out a in c", 1),
+        ):
+            timetable = tuple(zip(words.split()[::2], words.split()[1::2]))
+            self.assertEqual(plain_fewest(heights, timetable), fewest)
+            self.check_plan(heights, timetable, fewest)
+
     def test_no_events(self):
         self.assert_same(fewest_plan(Yard(TALLEST), ()), ())
         self.assert_same(fewest_plan(yard=Yard((1, 1, 1)), timetable=()), ())

@@ -181,7 +181,7 @@ class TestTexts(Checks):
         wrong = ["", " ", "in", "in a", "in a 0 0", "in  0", "in a 00", "in a 01", "in a 12", "in a -1", "in a +1", "in A 0",
                  "in a b", "In a 0", "in a 0 ", " in a 0", "in  a 0", "in a  0", "move 0 0", "move 0 12", "move 12 0",
                  "move a 0", "move 0 a", "move 00 1", "move 0", "move 0 1 2", "out 0 a", "out abcdefghi 0", "out 1 1",
-                 "in a\t0", "go a 0", "in a 0\r", "in \u00e4 0", "in a \u0661", "out a1 0"]
+                 "in a\t0", "go a 0", "out 0 1", "in 1 0", "go 0 1", "in a 0\r", "in \u00e4 0", "in a \u0661", "out a1 0"]
         for line in wrong:
             self.assert_told(InvalidText, 1, read_plan, "in a 0\n" + line)
             self.assert_told(InvalidText, 0, read_plan, line + "\nin a 0")
