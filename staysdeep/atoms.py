@@ -23,7 +23,9 @@ def is_name(value):
 
 
 def is_same(value, wanted):
-    """Whether any value is what is wanted: an integer, a string, or a tuple of such; no bool is an integer."""
+    """Whether any value is what is wanted: None, an integer, a string, or a tuple of such; no bool is an integer."""
+    if wanted is None:
+        return value is None
     if isinstance(wanted, tuple):
         if not isinstance(value, tuple) or len(value) != len(wanted):
             return False

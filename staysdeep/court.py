@@ -33,11 +33,9 @@ class Short:
         )
 
 
-def shorts(yard, timetable):
-    """A `Short` for each stretch with fewer stayers than it is owed, by cover, then by stretch."""
+def shorts_among(yard, told, spans):
+    """A `Short` for each of these pairs (cover, stretch) whose stretch has fewer stayers than it is owed."""
     found = []
-    told = all_stretches(yard, timetable)
-    spans = presences(timetable)
     for cover, stretch in told:
         lot = staying(spans, stretch)
         if len(lot) < owed(yard, cover):
@@ -45,21 +43,33 @@ def shorts(yard, timetable):
     return tuple(found)
 
 
+def shorts(yard, timetable):
+    """A `Short` for each stretch with fewer stayers than it is owed, by cover, then by stretch."""
+    return shorts_among(yard, all_stretches(yard, timetable), presences(timetable))
+
+
 def can_be_done(yard, timetable):
     """Whether the timetable can be carried out."""
     return len(shorts(yard, timetable)) == 0
 
 
-def _dealt_table(yard, timetable):
-    """The triples (place, stretch, box) that are dealt, ascending, where no stretch has too few stayers."""
+def deal(yard, told, spans, fixed):
+    """The triples (place, stretch, box) that are dealt, ascending, where no stretch has too few stayers.
+
+    `fixed` has the boxes of those pairs (place, stretch) for which they are told before: of all places, or of none,
+    in each stretch of a cover.
+    """
     # Presences ascend by name, so of boxes that end alike the least name stays first.
-    spans = sorted(presences(timetable), key=lambda span: -span[2])
+    falling = sorted(spans, key=lambda span: -span[2])
     kept_until = {}
     table = []
-    for cover, stretch in sorted(all_stretches(yard, timetable), key=lambda row: row[1][0]):
+    for cover, stretch in sorted(told, key=lambda row: row[1][0]):
         begin, end = stretch
-        loose = [box for box, first, last in spans if first <= begin <= last and kept_until.get(box, -1) < begin]
-        for place, box in zip(layer(yard, cover), loose):
+        lying = layer(yard, cover)
+        boxes = [fixed[(place, stretch)] for place in lying if (place, stretch) in fixed]
+        if not boxes:
+            boxes = [box for box, first, last in falling if first <= begin <= last and kept_until.get(box, -1) < begin]
+        for place, box in zip(lying, boxes):
             kept_until[box] = end
             table.append((place, stretch, box))
     return tuple(sorted(table))
@@ -70,7 +80,7 @@ def court(yard, timetable):
     found = shorts(yard, timetable)
     if found:
         return found[0]
-    return Dealt(_dealt_table(yard, timetable))
+    return Dealt(deal(yard, all_stretches(yard, timetable), presences(timetable), {}))
 
 
 def _is_short(yard, timetable, value):
@@ -84,9 +94,8 @@ def _is_short(yard, timetable, value):
     return False
 
 
-def _has_triples(yard, timetable, table):
+def _has_triples(yard, told, table):
     """Whether any value is a tuple of triples, one for each place and stretch, ascending, each with a name."""
-    told = all_stretches(yard, timetable)
     wanted = sorted([(place, stretch) for cover, stretch in told for place in layer(yard, cover)])
     if not isinstance(table, tuple) or len(table) != len(wanted):
         return False
@@ -98,11 +107,11 @@ def _has_triples(yard, timetable, table):
     return True
 
 
-def _all_stay(timetable, table):
+def _all_stay(spans, table):
     """Whether each box of the triples stays through its stretch."""
-    spans = {box: (first, last) for box, first, last in presences(timetable)}
+    there = {box: (first, last) for box, first, last in spans}
     for _, stretch, box in table:
-        if box not in spans or not spans[box][0] <= stretch[0] <= stretch[1] <= spans[box][1]:
+        if box not in there or not there[box][0] <= stretch[0] <= stretch[1] <= there[box][1]:
             return False
     return True
 
@@ -117,14 +126,19 @@ def _are_apart(table):
     return True
 
 
+def is_right_table(yard, told, spans, table):
+    """Whether any value is a right table for these pairs (cover, stretch), and boxes with these presences."""
+    return _has_triples(yard, told, table) and _all_stay(spans, table) and _are_apart(table)
+
+
 def check_court(yard, timetable, value):
     """Whether any value is some right `Short`, or some right `Dealt`."""
     need_timetable(yard, timetable)
     if isinstance(value, Short):
         return _is_short(yard, timetable, value)
-    if not isinstance(value, Dealt) or not _has_triples(yard, timetable, value.table):
+    if not isinstance(value, Dealt):
         return False
-    return _all_stay(timetable, value.table) and _are_apart(value.table)
+    return is_right_table(yard, all_stretches(yard, timetable), presences(timetable), value.table)
 
 
 def kept_at(dealt, state):
@@ -132,10 +146,8 @@ def kept_at(dealt, state):
     return tuple(sorted([(place, box) for place, (first, last), box in dealt.table if first <= state <= last]))
 
 
-def dealings_count(yard, timetable):
-    """The number of all right tables."""
-    told = all_stretches(yard, timetable)
-    spans = presences(timetable)
+def deal_ways(yard, told, spans):
+    """In how many ways boxes can be dealt to all places in these stretches."""
     many = 1
     for cover, stretch in told:
         spare = len(staying(spans, stretch)) - owed(yard, cover + 1)
@@ -143,10 +155,13 @@ def dealings_count(yard, timetable):
     return many
 
 
-def stuck_event(yard, timetable):
-    """The number of the first event that nobody can do, or None."""
-    told = all_stretches(yard, timetable)
-    spans = presences(timetable)
+def dealings_count(yard, timetable):
+    """The number of all right tables."""
+    return deal_ways(yard, all_stretches(yard, timetable), presences(timetable))
+
+
+def stuck_goings(yard, told, spans):
+    """The numbers of the goings behind which too few boxes are left to stay through one of these stretches."""
     found = []
     for cover, (begin, end) in told:
         ends = sorted([last for _, first, last in spans if first <= begin <= last], reverse=True)
@@ -154,4 +169,9 @@ def stuck_event(yard, timetable):
         going = ends[owed(yard, cover) - 1]
         if going < end:
             found.append(going)
-    return min(found, default=None)
+    return found
+
+
+def stuck_event(yard, timetable):
+    """The number of the first event that nobody can do, or None."""
+    return min(stuck_goings(yard, all_stretches(yard, timetable), presences(timetable)), default=None)

@@ -44,7 +44,7 @@ def _above(table, cover):
 
 def _open_covers(yard, table):
     """The covers from the number of free places on that some place has."""
-    return range(places(yard) - len(table), _tallest(yard))
+    return list(range(places(yard) - len(table), _tallest(yard)))
 
 
 def _comes(yard, table):

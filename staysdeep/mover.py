@@ -36,24 +36,29 @@ def coming_in(yard, standing, box, wanted):
     return move_steps(crane.walk) + ((COMING, box, stack),)
 
 
+def paper_steps(yard, standing, events, table):
+    """Some steps that carry out the events from the standing on, and keep each box where the table says."""
+    begun = {}
+    for place, (first, _), box in table:
+        begun.setdefault(first, []).append((place, box))
+    now = standing
+    told = []
+    for at, (word, box) in enumerate(events):
+        if word == COMING:
+            steps = coming_in(yard, now, box, begun.get(at + 1, []))
+        else:
+            steps = going_out(yard, now, box)
+        now = after_steps(now, steps)
+        told.extend(steps)
+    return tuple(told)
+
+
 def plan_for(yard, timetable, dealt):
     """Some plan that carries out the timetable and has the paper."""
     need_timetable(yard, timetable)
     if not isinstance(dealt, Dealt) or not check_court(yard, timetable, dealt):
         raise Refused("paper")
-    begun = {}
-    for place, (first, _), box in dealt.table:
-        begun.setdefault(first, []).append((place, box))
-    standing = empty_standing(yard)
-    plan = []
-    for at, (word, box) in enumerate(timetable):
-        if word == COMING:
-            steps = coming_in(yard, standing, box, begun.get(at + 1, []))
-        else:
-            steps = going_out(yard, standing, box)
-        standing = after_steps(standing, steps)
-        plan.extend(steps)
-    return tuple(plan)
+    return paper_steps(yard, empty_standing(yard), timetable, dealt.table)
 
 
 def moves_above(yard, timetable):

@@ -9,7 +9,7 @@ def owed(yard, cover):
     return sum([max(0, height - cover) for height in yard.heights])
 
 
-def _rows_below(counts, cover):
+def rows_below(counts, cover):
     """The longest rows of states with at most so many free places, as pairs (first, last), ascending."""
     found = []
     for state, free in enumerate(counts):
@@ -22,13 +22,17 @@ def _rows_below(counts, cover):
 
 def stretches(yard, timetable, cover):
     """All stretches of a cover, ascending."""
-    return _rows_below(free_counts(yard, timetable), cover)
+    return rows_below(free_counts(yard, timetable), cover)
+
+
+def stretches_of(yard, counts):
+    """The pairs of a cover that a place has and a stretch of it, ascending; so many places are free in the states."""
+    return [(cover, stretch) for cover in range(max(yard.heights)) for stretch in rows_below(counts, cover)]
 
 
 def all_stretches(yard, timetable):
     """The pairs of a cover that a place has and a stretch of it, ascending."""
-    counts = free_counts(yard, timetable)
-    return [(cover, stretch) for cover in range(max(yard.heights)) for stretch in _rows_below(counts, cover)]
+    return stretches_of(yard, free_counts(yard, timetable))
 
 
 def stretch_at(yard, timetable, cover, state):

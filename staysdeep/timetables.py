@@ -16,12 +16,13 @@ def is_event(value):
     return value[0] in (COMING, GOING) and is_name(value[1])
 
 
-def _first_wrong(events, room, boxes):
+def _first_wrong(events, room, boxes, gone):
     """The number of the first thing that is no event, or cannot be done; None without one.
 
-    There are so many places, and at first these boxes.
+    There are so many places, and at first these boxes; others came before, and are gone.
     """
-    came = set(boxes)
+    known = list(boxes) + list(gone)
+    came = set(known)
     there = set(boxes)
     for at, event in enumerate(events):
         if not is_event(event):
@@ -39,11 +40,14 @@ def _first_wrong(events, room, boxes):
     return None
 
 
-def need_events(value, room, boxes):
-    """Raises `InvalidTimetable` for what is no tuple of events with so many places, and at first these boxes."""
+def need_events(value, room, boxes, gone=()):
+    """Raises `InvalidTimetable` for what is no tuple of events with so many places, and at first these boxes.
+
+    Others came before, and are gone: neither these nor those come again.
+    """
     if not isinstance(value, tuple):
         raise InvalidTimetable(-1)
-    at = _first_wrong(value, room, boxes)
+    at = _first_wrong(value, room, boxes, gone)
     if at is not None:
         raise InvalidTimetable(at)
 
@@ -64,16 +68,21 @@ def timetable_boxes(timetable):
     return tuple(sorted([box for word, box in timetable if word == COMING]))
 
 
-def presences(timetable):
-    """The triples of a box and the first and the last state in which it is there, ascending."""
-    first = {}
+def spans_from(boxes, events):
+    """The triples of a box and the first and the last state in which it is there; these ones are there at first."""
+    first = {box: 0 for box in boxes}
     last = {}
-    for at, (word, box) in enumerate(timetable):
+    for at, (word, box) in enumerate(events):
         if word == COMING:
             first[box] = at + 1
         else:
             last[box] = at
-    return tuple(sorted([(box, first[box], last.get(box, len(timetable))) for box in first]))
+    return tuple(sorted([(box, first[box], last.get(box, len(events))) for box in first]))
+
+
+def presences(timetable):
+    """The triples of a box and the first and the last state in which it is there, ascending."""
+    return spans_from([], timetable)
 
 
 def presence(timetable, box):
@@ -90,13 +99,18 @@ def state_boxes(timetable, state):
     return tuple([box for box, first, last in presences(timetable) if first <= state <= last])
 
 
+def counts_from(free, events):
+    """The number of free places in each state, where so many are free at first."""
+    counts = [free]
+    for word, _ in events:
+        counts.append(counts[-1] - 1 if word == COMING else counts[-1] + 1)
+    return tuple(counts)
+
+
 def free_counts(yard, timetable):
     """The number of free places in each state."""
     need_timetable(yard, timetable)
-    counts = [places(yard)]
-    for word, _ in timetable:
-        counts.append(counts[-1] - 1 if word == COMING else counts[-1] + 1)
-    return tuple(counts)
+    return counts_from(places(yard), timetable)
 
 
 def timetable_text(timetable):
@@ -108,7 +122,7 @@ def read_timetable(text):
     """The timetable that has this text; of how many places is not asked."""
     need_text(text)
     events = [tuple(line.split(" ")) for line in parts(text, "\n")]
-    at = _first_wrong(events, len(events), [])
+    at = _first_wrong(events, len(events), [], [])
     if at is not None:
         raise InvalidText(at)
     return tuple(events)
