@@ -88,8 +88,10 @@ class Onward:
             return any([_is_short(value, short) for short in shorts_among(self.yard, self.unbound(), self.spans)])
         if not isinstance(value, Dealt) or not is_right_table(self.yard, self.told, self.spans, value.table):
             return False
-        fixed = self.fixed()
-        return all([fixed.get((place, stretch), box) == box for place, stretch, box in value.table])
+        for place, stretch, box in value.table:
+            if self.starts.get((place, stretch), box) != box or self.ends.get((place, stretch), box) != box:
+                return False
+        return True
 
 
 def _is_torn(value, torn):

@@ -13,6 +13,7 @@ from staysdeep.dues import Crowd
 from staysdeep.errors import InvalidCommand, InvalidStanding, InvalidTimetable, InvalidYard, NoName, YardError
 from staysdeep.kinds import Given, Lacking
 from staysdeep.standings import count_standings, standing_at
+from staysdeep.starts import Torn
 from staysdeep.yards import Yard, places
 
 # Small yards that are gone through whole.
@@ -57,6 +58,8 @@ def any_values():
 
 def strange_papers():
     """Papers that are right for hardly anything."""
+    torns = [Torn(None, None, None, None), Torn((0, 0), (0, 0), None, None), Torn((0, 0), (0, 0), "a", None)]
+    torns += [Torn([0, 0], [0, 0], "a", "b"), Torn((False, 0), (0, 0), "a", "b"), Torn(Dealt(()), (), True, {})]
     tables = [None, 0, "abc", (), [], (1,), ((1, 2, 3),), ((),), (((0, 0), (0, 0)),), [((0, 0), (0, 0), "a")]]
     tables += [(((0, 0), (0, 0), None),), ((None, None, "a"),), (((0, 0), (0, 0), ["a"]),), (([], [], []),)]
     papers = [Dealt(table) for table in tables] + [Given((), table) for table in tables]
@@ -64,7 +67,7 @@ def strange_papers():
     papers += [Short([], [], []), Short("a", "b", "c"), Short(10 ** 30, (0, 0), ()), Short(0, None, Dealt(()))]
     papers += [Crowd(None, None, None), Crowd(0, 0, ()), Crowd(-1, 0, ()), Crowd([], (), {}), Crowd(0, 0, [1])]
     papers += [Lacking(None, None, None), Lacking(0, (0, 0), ()), Lacking(True, [0, 0], ((),)), Lacking((), (), ())]
-    return papers + [Given(None, None), Given([], []), Given((("in", "a"),), ()), Dealt(Dealt(())), Given(Yard, len)]
+    return papers + torns + [Given(None, None), Given([], []), Given((("in", "a"),), ()), Dealt(Dealt(())), Given(Yard, len)]
 
 
 def names(many):
@@ -230,9 +233,9 @@ def next_events(room, events):
     return goings + [("in", "abcdefghijkl"[len(came)])] if len(there) < room else goings
 
 
-def plain_states(timetable):
-    """For each state the set of the boxes that are there."""
-    states = [set()]
+def plain_states(timetable, boxes=()):
+    """For each state the set of the boxes that are there; these ones are there at first."""
+    states = [set(boxes)]
     for word, box in timetable:
         states.append(states[-1] | {box} if word == "in" else states[-1] - {box})
     return states
@@ -250,9 +253,9 @@ def drawn_timetable(draw, room, length):
     return tuple(events)
 
 
-def plain_stretches(total, timetable, cover):
+def plain_stretches(total, timetable, cover, boxes=()):
     """All rows of states with so few free places that cannot be made longer."""
-    fits = [total - len(there) <= cover for there in plain_states(timetable)]
+    fits = [total - len(there) <= cover for there in plain_states(timetable, boxes)]
     found = []
     for first in range(len(fits)):
         for last in range(first, len(fits)):
@@ -262,8 +265,8 @@ def plain_stretches(total, timetable, cover):
     return tuple(found)
 
 
-def plain_stayers(timetable, first, last):
-    states = plain_states(timetable)[first:last + 1]
+def plain_stayers(timetable, first, last, boxes=()):
+    states = plain_states(timetable, boxes)[first:last + 1]
     return tuple(sorted(box for box in states[0] if all(box in there for there in states)))
 
 
@@ -319,21 +322,21 @@ def plain_table(heights, timetable):
     return tuple(sorted((place, (first, last), box) for place, first, last, box in rows))
 
 
-def plain_keys(heights, timetable):
+def plain_keys(heights, timetable, boxes=()):
     """The pairs (place, stretch) of all places and all stretches of their covers, ascending."""
     told = []
     for cover in range(max(heights)):
-        stretches = plain_stretches(sum(heights), timetable, cover)
+        stretches = plain_stretches(sum(heights), timetable, cover, boxes)
         told += [(place, stretch) for place in plain_places(heights, cover) for stretch in stretches]
     return sorted(told)
 
 
-def is_right_table(heights, timetable, table):
+def is_right_table(heights, timetable, table, boxes=()):
     """Whether a tuple of triples is a right table, from the definition."""
-    if [triple[:2] for triple in table] != plain_keys(heights, timetable):
+    if [triple[:2] for triple in table] != plain_keys(heights, timetable, boxes):
         return False
     for at, (_, (first, last), box) in enumerate(table):
-        if box not in plain_stayers(timetable, first, last):
+        if box not in plain_stayers(timetable, first, last, boxes):
             return False
         for _, (begin, end), other in table[:at]:
             if box == other and max(first, begin) <= min(last, end):
@@ -341,15 +344,15 @@ def is_right_table(heights, timetable, table):
     return True
 
 
-def all_tables(heights, timetable):
+def all_tables(heights, timetable, boxes=()):
     """All right tables, by trying all stayers."""
-    keys = plain_keys(heights, timetable)
+    keys = plain_keys(heights, timetable, boxes)
     tables = [()]
     for place, (first, last) in keys:
         further = []
         for table in tables:
             busy = {box for _, (begin, end), box in table if max(first, begin) <= min(last, end)}
-            free = [box for box in plain_stayers(timetable, first, last) if box not in busy]
+            free = [box for box in plain_stayers(timetable, first, last, boxes) if box not in busy]
             further += [table + ((place, (first, last), box),) for box in free]
         tables = further
     return tables

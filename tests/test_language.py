@@ -107,6 +107,22 @@ def is_set(node):
     return isinstance(node, (ast.Set, ast.SetComp)) or called_name(node) == "set"
 
 
+def is_iterated_at_once(node):
+    """Whether this is a call of what the rules let stand only where it is gone over on the spot."""
+    if not isinstance(node, ast.Call):
+        return False
+    if isinstance(node.func, ast.Attribute):
+        return node.func.attr in ("items", "keys", "values")
+    return called_name(node) in ("zip", "enumerate", "reversed", "range", "map", "iter")
+
+
+def is_test_of_range(node, inner):
+    """Whether a node asks by `in` for a thing of a range, or takes one by its index."""
+    if isinstance(node, ast.Subscript):
+        return node.value is inner
+    return isinstance(node, ast.Compare) and inner in node.comparators and isinstance(node.ops[0], (ast.In, ast.NotIn))
+
+
 def changed_names(statements):
     """The names of what is changed in some statements: by an item, or by a method that changes."""
     names = set()
@@ -266,11 +282,32 @@ class TestCode(unittest.TestCase):
                         self.assertNotIn("__", node.value, (path, node.lineno))
 
     def test_what_is_iterated_at_once(self):
-        barred = ("zip", "enumerate", "reversed", "map", "iter")
+        takers = "list tuple dict sorted sum any all enumerate zip min max join reversed len".split()
         for path, tree in trees():
-            for node in ast.walk(tree):
-                if isinstance(node, (ast.Assign, ast.Return)) and isinstance(node.value, ast.Call):
-                    self.assertNotIn(getattr(node.value.func, "id", ""), barred, (path, node.lineno))
+            parents = parents_of(tree)
+            for node in [node for node in ast.walk(tree) if is_iterated_at_once(node)]:
+                above, where = parents[node], (path, node.lineno)
+                if isinstance(above, ast.Assign):
+                    self.check_kept(above, parents, where)
+                elif isinstance(above, ast.Call):
+                    self.assertIn(getattr(above.func, "id", getattr(above.func, "attr", "")), takers, where)
+                else:
+                    at_once = isinstance(above, (ast.For, ast.comprehension)) and above.iter is node
+                    self.assertTrue(at_once or is_test_of_range(above, node), where)
+
+    def check_kept(self, assignment, parents, where):
+        """A range or the like that is kept: by a plain local name, which is then only gone over or asked."""
+        self.assertEqual([target.__class__ for target in assignment.targets], [ast.Name], where)
+        function = parents[assignment]
+        while not isinstance(function, ast.FunctionDef):
+            function = parents[function]
+        named = [node for node in ast.walk(function)
+                 if isinstance(node, ast.Name) and node.id == assignment.targets[0].id]
+        self.assertEqual(len([node for node in named if isinstance(node.ctx, ast.Store)]), 1, where)
+        for node in [node for node in named if isinstance(node.ctx, ast.Load)]:
+            above = parents[node]
+            gone_over = isinstance(above, (ast.For, ast.comprehension)) and above.iter is node
+            self.assertTrue(gone_over or called_name(above) in BUILTINS or is_test_of_range(above, node), where)
 
     def test_what_a_loop_goes_over_is_not_changed_in_it(self):
         for path, tree in trees():
