@@ -13,7 +13,7 @@ PAST = "old"
 FUTURE = "new"
 
 
-def _tallest(yard):
+def tallest(yard):
     return max(yard.heights)
 
 
@@ -22,18 +22,18 @@ def marks(yard, timetable):
     counts = free_counts(yard, timetable)
     spans = presences(timetable)
     there = [(box, first) for box, first, last in spans if last == len(timetable)]
-    return tuple([(box, min(_tallest(yard), max(counts[first - 1:]))) for box, first in there])
+    return tuple([(box, min(tallest(yard), max(counts[first - 1:]))) for box, first in there])
 
 
 def need_marks(yard, value):
     """Returns None for what has the form of a table, and raises `InvalidOrder` for any other value."""
     if not isinstance(value, tuple) or len(value) > places(yard):
         raise InvalidOrder(-1)
-    least = min(_tallest(yard), places(yard) - len(value))
+    least = min(tallest(yard), places(yard) - len(value))
     for at, pair in enumerate(value):
         if not isinstance(pair, tuple) or len(pair) != 2 or not is_name(pair[0]) or not is_whole(pair[1]):
             raise InvalidOrder(at)
-        if not least <= pair[1] <= _tallest(yard) or (at > 0 and pair[0] <= value[at - 1][0]):
+        if not least <= pair[1] <= tallest(yard) or (at > 0 and pair[0] <= value[at - 1][0]):
             raise InvalidOrder(at)
 
 
@@ -42,14 +42,14 @@ def _above(table, cover):
     return len([mark for _, mark in table if mark > cover])
 
 
-def _open_covers(yard, table):
+def open_covers(yard, table):
     """The covers from the number of free places on that some place has."""
-    return list(range(places(yard) - len(table), _tallest(yard)))
+    return list(range(places(yard) - len(table), tallest(yard)))
 
 
 def _comes(yard, table):
     """Whether some timetable with this table can be carried out."""
-    for cover in _open_covers(yard, table):
+    for cover in open_covers(yard, table):
         if not owed(yard, cover) <= _above(table, cover) <= places(yard) - cover:
             return False
     return True
@@ -61,7 +61,7 @@ def marks_come(yard, table):
     return _comes(yard, table)
 
 
-def _need_coming_marks(yard, tables):
+def need_coming_marks(yard, tables):
     """Raises an error for the first value that is no table, then for the first one that does not come."""
     for table in tables:
         need_marks(yard, table)
@@ -70,33 +70,33 @@ def _need_coming_marks(yard, tables):
             raise Refused("marks")
 
 
-def _next_table(yard, table, event):
+def next_table(yard, table, event):
     """The table behind one more event."""
     word, box = event
     free = places(yard) - len(table)
     if word == COMING:
-        return tuple(sorted(table + ((box, min(free, _tallest(yard))),)))
-    least = min(free + 1, _tallest(yard))
+        return tuple(sorted(table + ((box, min(free, tallest(yard))),)))
+    least = min(free + 1, tallest(yard))
     return tuple([(name, max(mark, least)) for name, mark in table if name != box])
 
 
-def _is_held(yard, table):
+def is_held(yard, table):
     """Whether enough boxes have been there through each stretch that has the last state."""
-    return all([_above(table, cover) >= owed(yard, cover) for cover in _open_covers(yard, table)])
+    return all([_above(table, cover) >= owed(yard, cover) for cover in open_covers(yard, table)])
 
 
-def _table_names(table):
+def table_names(table):
     return [box for box, _ in table]
 
 
 def _tables_on(yard, table, events):
     """The tables before all events and behind each one, up to the first event that cannot be carried out."""
-    _need_coming_marks(yard, [table])
-    need_events(events, places(yard), _table_names(table))
+    need_coming_marks(yard, [table])
+    need_events(events, places(yard), table_names(table))
     way = [table]
     for event in events:
-        behind = _next_table(yard, way[-1], event)
-        if not _is_held(yard, behind):
+        behind = next_table(yard, way[-1], event)
+        if not is_held(yard, behind):
             break
         way.append(behind)
     return way
@@ -118,24 +118,24 @@ def marks_behind(yard, table, events):
 
 def may_go(yard, table):
     """The lot of the boxes that can go next."""
-    _need_coming_marks(yard, [table])
+    need_coming_marks(yard, [table])
     free = places(yard) - len(table)
-    tight = [cover for cover in _open_covers(yard, table) if cover > free and _above(table, cover) == owed(yard, cover)]
-    most = min(tight, default=_tallest(yard))
+    tight = [cover for cover in open_covers(yard, table) if cover > free and _above(table, cover) == owed(yard, cover)]
+    most = min(tight, default=tallest(yard))
     return tuple([box for box, mark in table if mark <= most])
 
 
 def past_with(yard, table):
     """Some timetable with this table that can be carried out."""
-    _need_coming_marks(yard, [table])
-    tallest, free = _tallest(yard), places(yard) - len(table)
+    need_coming_marks(yard, [table])
+    most, free = tallest(yard), places(yard) - len(table)
     # Enough for each event below: a box of another name comes only to fill the yard, and goes at most once.
-    spare = new_names(PAST, _table_names(table), places(yard) + tallest)
-    events = [(COMING, box) for box, mark in table if mark == tallest]
+    spare = new_names(PAST, table_names(table), places(yard) + most)
+    events = [(COMING, box) for box, mark in table if mark == most]
     there = []
-    if free < tallest:
-        there = _fill(events, spare, places(yard) - tallest + 1 - len(events))
-    for level in range(tallest - 1, free - 1, -1):
+    if free < most:
+        there = _fill(events, spare, places(yard) - most + 1 - len(events))
+    for level in range(most - 1, free - 1, -1):
         # Here just `level` places are free, and all boxes with greater marks are there.
         lot = [box for box, mark in table if mark == level]
         for at, box in enumerate(lot):
@@ -160,7 +160,7 @@ def count_marks(yard, boxes):
     total = places(yard)
     # Item k has the number of ways to choose k boxes with marks above the cover, and their marks.
     ways = [1] + [0] * boxes
-    for cover in range(_tallest(yard) - 1, total - boxes - 1, -1):
+    for cover in range(tallest(yard) - 1, total - boxes - 1, -1):
         least, most = owed(yard, cover), min(boxes, total - cover)
         ways = [_ways_to(ways, boxes, many) if least <= many <= most else 0 for many in range(boxes + 1)]
     # The other ones have the least mark.
@@ -173,8 +173,8 @@ def _ways_to(ways, boxes, many):
 
 
 def _need_same_boxes(yard, one, other):
-    _need_coming_marks(yard, [one, other])
-    if _table_names(one) != _table_names(other):
+    need_coming_marks(yard, [one, other])
+    if table_names(one) != table_names(other):
         raise Refused("boxes")
 
 
@@ -210,7 +210,7 @@ def _parting_at(yard, table, box, cover):
     best = sorted([(name == box, mark, name) for name, mark in table], reverse=True)
     # What the greater covers need is among those with the greatest marks; so the others may go, the least mark first.
     goers = [name for _, _, name in best[owed(yard, cover):]]
-    fill = new_names(FUTURE, _table_names(table), len(goers))
+    fill = new_names(FUTURE, table_names(table), len(goers))
     events = []
     free = total - len(table)
     while goers:
@@ -310,8 +310,8 @@ def _good_weaves(yard, one, other):
         further = {}
         for (at, table), (many, weave) in level.items():
             for event, ahead in _next_of(one, other, at, done - at):
-                behind = _next_table(yard, table, event)
-                if len(behind) <= places(yard) and _is_held(yard, behind):
+                behind = next_table(yard, table, event)
+                if len(behind) <= places(yard) and is_held(yard, behind):
                     had = further.get((ahead, behind), (0, None))[0]
                     further[(ahead, behind)] = (had + many, weave + (event,))
         level = further

@@ -172,7 +172,7 @@ def plan_paper(yard, plan):
     return Dealt(tuple(sorted(table)))
 
 
-def _mirrored_step(step):
+def mirrored_step(step):
     word, thing, stack = step
     if word == MOVING:
         return MOVING, stack, thing
@@ -184,7 +184,7 @@ def plan_mirror(plan):
     events = plan_events(plan)
     if state_boxes(events, len(events)):
         raise Refused("boxes")
-    return tuple([_mirrored_step(step) for step in reversed(plan)])
+    return tuple([mirrored_step(step) for step in reversed(plan)])
 
 
 def bare_plan(plan):

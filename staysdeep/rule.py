@@ -19,7 +19,7 @@ def leaving_order(timetable, state):
     return tuple([box for _, box in sorted(falling, key=lambda row: row[0])])
 
 
-def _need_order(boxes, order):
+def need_order(boxes, order):
     """Raises `InvalidOrder` for any value that is no order of all these boxes."""
     if not isinstance(order, tuple):
         raise InvalidOrder(-1)
@@ -47,10 +47,10 @@ def rule_steps(yard, standing, event, order):
             raise Refused("box")
         if free == 0:
             raise Refused("room")
-        _need_order(boxes + (box,), order)
+        need_order(boxes + (box,), order)
         return coming_in(yard, standing, box, _wanted(yard, standing, box, order))
     place_of(standing, box)
-    _need_order(boxes, order)
+    need_order(boxes, order)
     if not can_dig(yard, standing, box):
         raise Refused("deep")
     return going_out(yard, standing, box)

@@ -175,9 +175,19 @@ class TestModules(unittest.TestCase):
             for node in tree.body:
                 self.assertTrue(is_doc(node) or isinstance(node, plain), (path, node.lineno))
                 if isinstance(node, ast.Assign):
-                    ast.literal_eval(node.value)
+                    self.check_plain(node, tree)
             names = defined_names(tree) + imported_names(tree)
             self.assertEqual(len(names), len(set(names)), path)
+
+    def check_plain(self, node, tree):
+        """A plain value, or a dict of functions that are defined above it."""
+        values = node.value.values if isinstance(node.value, ast.Dict) else [node.value]
+        above = [other.name for other in tree.body if isinstance(other, ast.FunctionDef) and other.lineno < node.lineno]
+        for value in values:
+            if not isinstance(value, ast.Name):
+                ast.literal_eval(value)
+            else:
+                self.assertIn(value.id, above)
 
     def test_imports(self):
         defined = {path.stem: defined_names(tree) for path, tree in trees()}
