@@ -5,16 +5,21 @@ import importlib
 import inspect
 import unittest
 
-from staysdeep import errors
+from staysdeep import changes, errors
+from staysdeep.counted import nth_timetable
 from staysdeep.court import Dealt, Short, court
+from staysdeep.desk import Desk
 from staysdeep.dues import Crowd
+from staysdeep.ends import end_court
 from staysdeep.kinds import Given, Lacking, kinds_court, last_come
+from staysdeep.live import Live, live_after
 from staysdeep.mirrors import emptied
 from staysdeep.rule import rule_plan
+from staysdeep.starts import Torn, start_court
 from staysdeep.yards import Yard
-from tests.helpers import TALLEST, Checks, names
+from tests.helpers import TALLEST, WRONG_STANDINGS, WRONG_TIMETABLES, Checks, names
 
-PAPERS = (Dealt, Short, Crowd, Given, Lacking)
+PAPERS = (Dealt, Short, Crowd, Given, Lacking, Torn)
 # The parameters of each function, as the points name them.
 INTERFACE = {
     "yards": {
@@ -96,6 +101,52 @@ INTERFACE = {
         "parting": "yard one other", "every_weave": "yard one other", "some_weave": "yard one other",
         "count_weaves": "yard one other",
     },
+    "starts": {
+        "Torn": "place stretch start end", "need_onward": "yard standing value", "start_court": "yard standing events",
+        "check_start": "yard standing events value", "start_steps": "yard standing events dealt",
+        "start_stuck": "yard standing events",
+    },
+    "ends": {
+        "end_court": "yard standing events wished", "check_end": "yard standing events wished value",
+        "end_steps": "yard standing events wished dealt",
+    },
+    "costs": {
+        "count_starts": "yard lot events", "count_ends": "yard standing events",
+        "least_changes": "yard standing events", "mended_start": "yard standing events",
+        "change_bound": "yard standing events covers", "tight_covers": "yard standing events",
+    },
+    "compared": {
+        "carries_all": "yard other", "parted_by": "yard other", "all_boxes": "yard", "least_trouble": "yard",
+        "common_yard": "yard other", "either_yard": "yard other", "best_yard": "total stacks", "levelled": "yard more",
+    },
+    "helped": {
+        "stay_row": "timetable", "weakest_yard": "timetable total stacks", "fewest_places": "yard events",
+        "further_stack": "yard events",
+    },
+    "counted": {
+        "count_yards": "timetable total stacks", "count_timetables": "yard boxes", "nth_timetable": "yard lot number",
+        "timetable_number": "yard timetable",
+    },
+    "wagons": {
+        "turned_by": "yard standing walk", "count_turnings": "yard boxes", "walk_parity": "yard one other",
+        "can_turn": "yard one other turned", "fewest_turns": "yard one other turned",
+        "turn_walk": "yard one other turned", "spin_walk": "yard standing box",
+    },
+    "changes": {
+        "dropped": "timetable box", "exchanged": "timetable at", "need_days": "value", "day_order": "days",
+        "hold_of": "yard table order cover", "safe_boxes": "yard table order cover",
+        "safe_standing": "yard table order standing", "count_safe": "yard table order",
+    },
+    "live": {"Live": "yard", "live_after": "yard plan"},
+    "checker": {"sheet_holds": "yard kind question value"},
+    "desk": {"Desk": ""},
+}
+METHODS = {
+    Live: {
+        "carry": "steps", "serve": "event order", "verdict": "events", "missed": "", "safe": "order", "undo": "",
+        "redo": "", "trying": "work", "__len__": "", "__init__": "yard",
+    },
+    Desk: {"say": "command", "__init__": ""},
 }
 ERRORS = {
     "YardError": "", "InvalidYard": "at", "InvalidStanding": "at", "InvalidMove": "at", "InvalidTimetable": "at",
@@ -103,7 +154,10 @@ ERRORS = {
     "Refused": "word", "NoName": "name",
 }
 WHETHER = ("same_class", "can_dig", "can_shift", "check_court", "does_plan", "check_dues", "is_choice", "check_kinds",
-           "marks_come", "as_good")
+           "marks_come", "as_good", "carries_all", "check_start", "check_end", "can_turn", "safe_standing",
+           "sheet_holds")
+YARDS = ("Yard", "read_yard", "rest_yard", "common_yard", "either_yard", "best_yard", "levelled", "weakest_yard")
+LIVING = {"Live": Live, "live_after": Live, "Desk": Desk}
 STANDING = (("a", "b"), ("c",), ())
 TIMETABLE = (("in", "b"), ("in", "a"), ("in", "c"), ("out", "b"), ("in", "d"))
 ROWS = (((0, 0), (3, 3), "a"), ((0, 0), (5, 5), "a"))
@@ -113,6 +167,10 @@ REQUESTS = (("in", "b", "y"), ("in", "a", "x"), ("in", "c", "x"), ("out", "x"), 
 CHOICE = (("in", "b"), ("in", "a"), ("in", "c"), ("out", "a"), ("in", "d"), ("out", "b"))
 FULL, OTHER = (("a", 2), ("b", 1), ("c", 1), ("d", 1)), (("a", 1), ("b", 2), ("c", 1), ("d", 1))
 PAIR = {"one": TIMETABLE, "other": (("in", "x"), ("out", "x"))}
+LAIN = (("a", "b"), ("c",), ("d",))
+FLAT = {"other": Yard((1, 1, 1, 1))}
+AFTER = Dealt((((0, 0), (0, 0), "a"), ((0, 0), (2, 2), "a")))
+DAYS = (((), ("a", "b", "c")), (("a", "d"), ("d", "e")))
 # Arguments of one function that are not those of `samples`.
 SPECIAL = {
     "read_plan": {"text": "in a 0\nmove 0 1\nout a 1"}, "check_court": {"value": Dealt(ROWS)},
@@ -127,6 +185,13 @@ SPECIAL = {
     "read_yard": {"text": "2 1 1"}, "read_standing": {"text": "a b\nc\n"}, "read_walk": {"text": "0 2\n1 0"},
     "read_timetable": {"text": "in a\nin b\nout a"}, "need_timetable": {"value": TIMETABLE},
     "nth_class": {"number": 2}, "nth_in_class": {"number": 3},
+    "need_onward": {"value": (("out", "b"), ("in", "e"))}, "check_start": {"value": AFTER}, "start_steps": {"dealt": AFTER},
+    "check_end": {"value": AFTER}, "end_steps": {"dealt": AFTER}, "carries_all": FLAT, "parted_by": FLAT,
+    "common_yard": FLAT, "either_yard": FLAT, "fewest_places": {"events": TIMETABLE}, "need_days": {"value": DAYS},
+    "further_stack": {"events": TIMETABLE}, "safe_standing": {"standing": LAIN},
+    "timetable_number": {"timetable": TIMETABLE + tuple([("out", box) for box in "dca"])},
+    "spin_walk": {"standing": (("a",), (), ("b",))},
+    "sheet_holds": {"kind": "walk", "value": ((0, 2), (1, 0))}, "Torn": {"end": None},
 }
 
 
@@ -140,7 +205,9 @@ def samples(heights):
         "stayers": ("a", "b"), "paper": Dealt(ROWS), "plan": PLAN, "event": ("in", "d"), "order": ("b", "a", "d", "c"),
         "goings": ("c", "b"), "many": 2, "dues": (("a", 3), ("c", 1)), "first": 1, "end": 2, "requests": REQUESTS,
         "kind": "x", "choice": CHOICE, "taken": CHOICE[:3], "leasts": (("x", 1), ("y", 0)), "table": FULL,
-        "events": (("out", "b"), ("in", "e")),
+        "events": (("out", "b"), ("in", "e")), "wished": (("a", "e"), ("c",), ()), "covers": (1,), "total": 7,
+        "stacks": 3, "more": 2, "turned": ("b", "c"), "days": DAYS, "at": 1, "place": (0, 0), "start": "a",
+        "question": (STANDING, (("a", "c"), (), ("b",))),
     }
 
 
@@ -157,8 +224,8 @@ def calls():
 
 def shown(value):
     """A value as plain text, with all kinds in it."""
-    if isinstance(value, (Yard,) + PAPERS):
-        return f"{value.__class__.__name__}({vars(value)!r})"
+    if isinstance(value, (Yard, Live, Desk) + PAPERS):
+        return f"{value.__class__.__name__}({shown_all(vars(value))!r})"
     if isinstance(value, (list, tuple)):
         return value.__class__.__name__ + "(" + ", ".join([shown(thing) for thing in value]) + ")"
     return repr(value)
@@ -185,6 +252,27 @@ class TestInterface(unittest.TestCase):
                 self.assertEqual(" ".join(inspect.signature(error).parameters), word, name)
                 self.assertIn("__init__", vars(error))
 
+    def test_methods_and_their_parameters(self):
+        for kind, methods in METHODS.items():
+            for name, words in methods.items():
+                # Each one stands in the class itself.
+                self.assertIn(name, vars(kind))
+                self.assertEqual(" ".join(list(inspect.signature(vars(kind)[name]).parameters)[1:]), words, name)
+        self.assertEqual(sorted(vars(Live(Yard((1, 1, 1)))))[-3:], ["plan", "standing", "yard"])
+        self.assertIs(Desk().live, None)
+        for paper in PAPERS:
+            self.assertIn("__eq__", vars(paper))
+
+    def test_nothing_is_iterable_or_has_a_length_but_a_live_yard(self):
+        things = [Yard((1, 1, 1)), Desk(), Torn(1, 2, 3, 4), Dealt(()), Short(0, (0, 0), ()), errors.InvalidYard(1)]
+        for thing in things + [Live(Yard((1, 1, 1)))]:
+            with self.assertRaises(TypeError):
+                iter(thing)
+        for thing in things:
+            with self.assertRaises(TypeError):
+                len(thing)
+        self.assertEqual(len(live_after(Yard((2, 1, 1)), PLAN)), len(PLAN))
+
     def test_yard_has_its_own_equality(self):
         self.assertIn("__eq__", vars(Yard))
         self.assertIn("__init__", vars(Yard))
@@ -198,8 +286,10 @@ class TestCalls(Checks):
             self.assertEqual(shown(call(**arguments)), want)
             turned = {word: arguments[word] for word in reversed(arguments)}
             self.assertEqual(shown(call(**turned)), want)
-            first, *rest = arguments
-            self.assertEqual(shown(call(arguments[first], **{word: arguments[word] for word in rest})), want)
+            for many in range(len(arguments)):
+                rest = list(arguments)[many:]
+                by_position = list(arguments.values())[:many]
+                self.assertEqual(shown(call(*by_position, **{word: arguments[word] for word in rest})), want)
 
     def test_arguments_are_not_changed(self):
         for call, arguments in calls():
@@ -241,6 +331,53 @@ class TestCalls(Checks):
                     self.assertEqual(shown(call(**listed)), shown(call(**arguments)))
 
 
+class TestOrderOfErrors(Checks):
+    """What is no standing, timetable, plan, requests or table is told before what later parameters cause."""
+
+    def check_first(self, word, wrong, error, spared=()):
+        seen = 0
+        for call, arguments in calls():
+            if "yard" not in arguments or word not in arguments or call.__name__ in spared or inspect.isclass(call):
+                continue
+            words = list(arguments)
+            later = words[words.index(word) + 1:]
+            for value, at in wrong:
+                told = {**arguments, word: value, "yard": Yard((2, 1, 1) if word != "timetable" else (1, 1, 1))}
+                self.assert_told(error, at, call, **told)
+                for name in later:
+                    # Things that are wrong in themselves, whatever the parameter.
+                    for bad in (None, -1, 10 ** 30):
+                        self.assert_told(error, at, call, **{**told, name: bad})
+            seen += 1
+        return seen
+
+    def test_standings(self):
+        self.assertGreaterEqual(self.check_first("standing", WRONG_STANDINGS, errors.InvalidStanding), 30)
+        # It comes before the table and the order here, too.
+        for value, at in WRONG_STANDINGS:
+            self.assert_told(errors.InvalidStanding, at, changes.safe_standing, Yard((2, 1, 1)), None, None, value)
+
+    def test_one_and_other(self):
+        names_of = ("same_class", "parting_place", "walk_between", "shortest_walk", "walk_parity", "can_turn", "fewest_turns",
+                    "turn_walk")
+        for call, arguments in calls():
+            if call.__name__ in names_of:
+                for value, at in WRONG_STANDINGS:
+                    for word in ("one", "other"):
+                        told = {**arguments, word: value}
+                        self.assert_told(errors.InvalidStanding, at, call, **told)
+                        if "turned" in told:
+                            self.assert_told(errors.InvalidStanding, at, call, **{**told, "turned": None})
+
+    def test_timetables(self):
+        self.assertGreaterEqual(self.check_first("timetable", WRONG_TIMETABLES, errors.InvalidTimetable), 14)
+
+    def test_events(self):
+        wrong = ((None, -1), ([], -1), ((None,), 0), ((("in", "b"),), 0), ((("out", "x"),), 0), ((("out", "b"), ("in", "b")), 1))
+        spared = ("fewest_places", "further_stack")
+        self.assertGreaterEqual(self.check_first("events", wrong, errors.InvalidTimetable, spared), 13)
+
+
 class TestKinds(unittest.TestCase):
 
     def check_plain(self, value):
@@ -255,7 +392,9 @@ class TestKinds(unittest.TestCase):
     def test_what_is_returned(self):
         for call, arguments in calls():
             found = call(**arguments)
-            if call.__name__ in ("Yard", "read_yard", "rest_yard"):
+            if call.__name__ in LIVING:
+                self.assertIs(type(found), LIVING[call.__name__])
+            elif call.__name__ in YARDS:
                 self.assertIs(type(found), Yard)
                 self.check_plain(found.heights)
             elif call.__name__ in WHETHER:
@@ -267,7 +406,7 @@ class TestKinds(unittest.TestCase):
     def test_lots_are_ascending_without_duplicates(self):
         lots = ("layer", "deep_places", "boxes_of", "deep_boxes", "lifted", "moves_from", "lying_places",
                 "timetable_boxes", "state_boxes", "presences", "stretches", "stayers", "balances", "kept_at", "ready",
-                "may_take", "marks", "marks_behind", "may_go")
+                "may_take", "marks", "marks_behind", "may_go", "turned_by", "safe_boxes", "tight_covers")
         seen = 0
         for call, arguments in calls():
             if call.__name__ in lots:
@@ -295,6 +434,8 @@ class TestLimits(Checks):
             "requests": tuple(kinds + [("out", "xyz"[at % 3]) for at in range(56)]), "taken": timetable[:144],
             "table": tuple([(box, min(12, 144 - at)) for at, box in enumerate(boxes)]),
             "events": (("out", boxes[-1]),) + tuple([(word, box) for box in comers for word in ("in", "out")]),
+            "wished": full[:11] + (full[11][:11],), "covers": tuple(range(12)), "total": 144, "stacks": 12, "more": 0,
+            "turned": (), "days": (((), boxes), (boxes[::2], ()), (boxes[1::2], ())), "at": 198,
         }
 
     def great_for(self, good):
@@ -314,7 +455,27 @@ class TestLimits(Checks):
             "is_choice": {"value": last_come(requests)}, "choice_number": {"choice": last_come(requests)},
             "check_kinds": {"value": kinds_court(yard, requests)}, "count_possible": {"requests": requests[:145]},
             "need_marks": {"value": table}, "as_good": tables, "parting": tables, "goings_at": {"many": 144},
-            "every_weave": weave, "some_weave": weave, "count_weaves": weave,
+            "every_weave": weave, "some_weave": weave, "count_weaves": weave, **self.later_great(good),
+        }
+
+    def later_great(self, good):
+        """Other great arguments of events behind a standing, of yards compared, and of what is kept while time goes on."""
+        boxes, yard, events, timetable = good["lot"], good["yard"], good["events"], good["timetable"]
+        paper = {"dealt": start_court(yard, good["standing"], events)}
+        few = {"standing": tuple([boxes[at::12][:4] for at in range(12)]), "events": tuple([("out", box) for box in boxes[36:48]])}
+        few["wished"] = tuple([boxes[at::12][:3] for at in range(12)])
+        other, eight = {"other": Yard((12,) * 11 + (11,))}, boxes[:8]
+        turn = {"order": boxes[::-1], "cover": 0}
+        return {
+            "need_onward": {"value": events}, "check_start": {"value": paper["dealt"]}, "start_steps": paper,
+            "check_end": {"value": end_court(yard, good["standing"], events, good["wished"])},
+            "end_steps": {**few, "dealt": end_court(yard, few["standing"], few["events"], few["wished"])},
+            "carries_all": other, "parted_by": other, "common_yard": other, "either_yard": {"other": yard},
+            "fewest_places": {"events": timetable}, "further_stack": {"events": timetable[:40]},
+            "count_timetables": {"boxes": 8}, "nth_timetable": {"lot": eight, "number": 10 ** 9},
+            "timetable_number": {"timetable": nth_timetable(yard, eight, 10 ** 9)}, "need_days": {"value": good["days"]},
+            "hold_of": turn, "safe_boxes": turn, "safe_standing": turn, "count_safe": turn,
+            "sheet_holds": {"kind": "plan", "question": (timetable,), "value": good["plan"]},
         }
 
     def test_the_tallest_yard_in_reasonable_time(self):

@@ -1,4 +1,4 @@
-"""The examples of sections 1 and 3 to 7, those of section 11 for module `joined`, and those of the README."""
+"""The examples of all sections, and those of the README."""
 
 import doctest
 import pathlib
@@ -97,8 +97,55 @@ SECTION_7 = """
     ('d', 'e', 'f')
 """
 
+SECTION_8 = """
+    >>> from staysdeep.costs import count_ends, count_starts, least_changes
+    >>> from staysdeep.starts import start_court, start_stuck
+    >>> from staysdeep.yards import Yard
+    >>> yard, standing, events = Yard((2, 1, 1)), (("a", "b"), ("c",), ()), (("in", "d"), ("out", "a"))
+    >>> torn = start_court(yard, standing, events)
+    >>> torn.place, torn.stretch, torn.start, start_stuck(yard, standing, events)
+    ((0, 0), (0, 2), 'a', 1)
+    >>> count_starts(yard, ("a", "b", "c"), events), least_changes(yard, standing, events)
+    (12, 1)
+    >>> count_ends(yard, standing, events), count_ends(yard, standing, (("in", "d"), ("out", "c")))
+    (0, 6)
+"""
+
+SECTION_9 = """
+    >>> from staysdeep.compared import carries_all, common_yard, either_yard, levelled, parted_by
+    >>> from staysdeep.counted import count_timetables, count_yards
+    >>> from staysdeep.helped import fewest_places, further_stack, weakest_yard
+    >>> from staysdeep.yards import Yard
+    >>> tall, flat = Yard((4, 1, 1, 1)), Yard((3, 3, 1))
+    >>> carries_all(tall, flat), carries_all(flat, tall)
+    (False, False)
+    >>> common_yard(tall, flat).heights, either_yard(tall, flat).heights, levelled(flat, 3).heights
+    ((4, 2, 1), (3, 2, 1, 1), (4, 3, 3))
+    >>> events = parted_by(tall, flat)
+    >>> len(events), weakest_yard(events, 7, 3).heights, count_yards(events, 7, 3)
+    (12, (3, 3, 1), 6)
+    >>> fewest_places(tall, events), further_stack(tall, events), count_timetables(Yard((2, 1, 1)), 5)
+    (1, 1, 99000)
+"""
+
+SECTION_10 = """
+    >>> from staysdeep.wagons import can_turn, count_turnings, fewest_turns, spin_walk, turned_by, walk_parity
+    >>> from staysdeep.yards import Yard
+    >>> yard, one = Yard((1, 1, 1)), (("a",), ("b",), ())
+    >>> other = (("b",), ("a",), ())
+    >>> turned_by(yard, one, ((1, 2), (0, 1), (2, 0))), walk_parity(yard, one, other), can_turn(yard, one, other, ())
+    (('a',), 1, False)
+    >>> fewest_turns(yard, one, other, ("b",)), fewest_turns(yard, one, one, ("a", "b"))
+    (3, 6)
+    >>> count_turnings(yard, 2), count_turnings(Yard((2, 1, 1)), 2)
+    (12, 32)
+    >>> len(spin_walk(Yard((2, 1, 1)), (("a",), (), ("b",)), "a"))
+    7
+"""
+
 SECTION_11 = """
     >>> from staysdeep.yards import Yard
+    >>> from staysdeep.changes import count_safe, day_order, hold_of, safe_boxes
     >>> from staysdeep.joined import count_marks, goes_on, marks, may_go
     >>> yard = Yard((2, 1, 1))
     >>> words = "in a in b in c in d out a in e out b in f out c".split()
@@ -109,6 +156,27 @@ SECTION_11 = """
     (('b', 'c', 'd', 'e'), ('d', 'e', 'f'))
     >>> count_marks(yard, 4), count_marks(yard, 3)
     (14, 7)
+    >>> day_order((((), ("a", "b", "c")), (("a", "d"), ("d", "e"))))[2:]
+    (('in', 'a'), ('out', 'a'), ('in', 'd'), ('out', 'd'), ('in', 'e'))
+    >>> table, order = marks(yard, events[:6]), ("b", "d", "e", "c")
+    >>> hold_of(yard, table, order, 1), safe_boxes(yard, table, order, 1), count_safe(yard, table, order)
+    (3, ('c',), 6)
+"""
+
+SECTION_12 = """
+    >>> from staysdeep.desk import Desk
+    >>> from staysdeep.live import Live
+    >>> from staysdeep.yards import Yard
+    >>> live = Live(Yard((2, 1, 1)))
+    >>> live.carry((("in", "a", 0), ("in", "b", 1), ("in", "c", 2), ("in", "d", 0)))
+    (('a', 'd'), ('b',), ('c',))
+    >>> live.missed(), live.verdict((("out", "b"), ("out", "a"))), live.verdict((("out", "b"), ("in", "e"), ("out", "a")))
+    (('a',), None, 2)
+    >>> live.serve(("out", "b"), ("b", "a", "c", "d")), live.missed(), live.undo()
+    ((('out', 'b', 1),), (), True)
+    >>> desk = Desk()
+    >>> [desk.say(word) for word in ("yard 2 1 1", "in a 0", "in b 2", "move 2 0", "verdict out b ; out a")]
+    ['4', 'a ;  ; ', 'a ;  ; b', 'a b ;  ; ', 'possible']
 """
 
 
@@ -139,8 +207,20 @@ class TestExamples(unittest.TestCase):
     def test_section_7(self):
         self.check_examples(SECTION_7, "section 7")
 
+    def test_section_8(self):
+        self.check_examples(SECTION_8, "section 8")
+
+    def test_section_9(self):
+        self.check_examples(SECTION_9, "section 9")
+
+    def test_section_10(self):
+        self.check_examples(SECTION_10, "section 10")
+
     def test_section_11(self):
         self.check_examples(SECTION_11, "section 11")
+
+    def test_section_12(self):
+        self.check_examples(SECTION_12, "section 12")
 
     def test_readme(self):
         self.check_examples(README.read_text(encoding="utf-8"), "README.md")
