@@ -19,15 +19,9 @@ def _is_row(value, many):
     return isinstance(value, tuple) and len(value) == many
 
 
-def _leads(yard, one, other, walk):
-    need_standing(yard, one)
-    need_standing(yard, other)
-    return walked(yard, one, walk) == other
-
-
 def _holds_walk(yard, question, value):
     one, other = question
-    return _leads(yard, one, other, value)
+    return walked(yard, one, value) == other
 
 
 def _holds_parted(yard, question, value):
@@ -47,7 +41,7 @@ def _holds_raised(yard, question, value):
 
 def _holds_turned(yard, question, value):
     one, other, turned = question
-    return _leads(yard, one, other, value) and is_same(turned, turned_by(yard, one, value))
+    return walked(yard, one, value) == other and is_same(turned, turned_by(yard, one, value))
 
 
 def _holds_dealt(yard, question, value):

@@ -1,6 +1,6 @@
 """Help for a timetable: what of it counts, the weakest yard for it, and the fewest further places."""
 
-from staysdeep.compared import all_boxes, best_yard, level_heights, levelled, need_total
+from staysdeep.compared import all_boxes, best_yard, level_heights, levelled
 from staysdeep.stretches import rows_below, staying
 from staysdeep.timetables import counts_from, presences
 from staysdeep.yards import GREATEST_HEIGHT, Yard, places
@@ -38,9 +38,9 @@ def _tallest_next(heights, rest, left, row):
 
 def weakest_yard(timetable, total, stacks):
     """Of all yards with so many places and stacks that carry out the timetable the weakest one, or None."""
-    need_total(total, stacks)
+    best = best_yard(total, stacks)
     row = stay_row(timetable)
-    if not carries_row(best_yard(total, stacks).heights, row):
+    if not carries_row(best.heights, row):
         return None
     heights = []
     for left in range(stacks - 1, -1, -1):
