@@ -1,4 +1,4 @@
-"""What things are made of: integers and names, and whether values are just alike."""
+"""What things are made of: integers, names and lots of them, and whether values are just alike."""
 
 LONGEST_NAME = 8
 LETTERS = "abcdefghijklmnopqrstuvwxyz"
@@ -20,6 +20,13 @@ def is_name(value):
         return False
     # The three together leave only a to z, and nothing of the empty string.
     return value.isascii() and value.isalpha() and value.islower()
+
+
+def is_lot(value):
+    """Whether any value is an ascending tuple of names, without duplicates."""
+    if not isinstance(value, tuple) or not all([is_name(name) for name in value]):
+        return False
+    return all([before < name for before, name in zip(value, value[1:])])
 
 
 def is_same(value, wanted):

@@ -2,7 +2,7 @@
 
 from math import perm
 
-from staysdeep.atoms import is_name
+from staysdeep.atoms import is_lot
 from staysdeep.errors import InvalidOrder, InvalidSize, NoName, Refused
 from staysdeep.joined import goes_on, need_coming_marks, open_covers, table_names
 from staysdeep.rule import need_order
@@ -29,16 +29,9 @@ def exchanged(timetable, at):
     return timetable[:at] + (other, one) + timetable[at + 2:]
 
 
-def _is_lot(value):
-    """Whether any value is a lot of names."""
-    if not isinstance(value, tuple) or not all([is_name(box) for box in value]):
-        return False
-    return all([before < box for before, box in zip(value, value[1:])])
-
-
 def _is_day(value):
     """Whether any value is a pair of lots of names."""
-    return isinstance(value, tuple) and len(value) == 2 and _is_lot(value[0]) and _is_lot(value[1])
+    return isinstance(value, tuple) and len(value) == 2 and is_lot(value[0]) and is_lot(value[1])
 
 
 def need_days(value):

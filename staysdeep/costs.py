@@ -61,7 +61,7 @@ class Repair:
 
     def kept(self):
         """As many good places as can all keep their boxes at once."""
-        left = dict(self.good)
+        left = {place: self.good[place] for place in self.good}
         for cover in sorted(self.spare):
             over = [place for place in left if _hits(left[place], [cover])]
             # Whoever would be in the way longest gives way first.

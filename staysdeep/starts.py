@@ -52,7 +52,10 @@ class Onward:
 
     def fixed(self):
         """All boxes that are told, by place and stretch."""
-        return {**self.starts, **self.ends}
+        found = {key: self.starts[key] for key in self.starts}
+        for key in self.ends:
+            found[key] = self.ends[key]
+        return found
 
     def unbound(self):
         """The pairs (cover, stretch) for which no boxes are told."""

@@ -1,6 +1,6 @@
 """Wagons: boxes that are turned about by each move, and walks that turn just some of them."""
 
-from staysdeep.atoms import is_name
+from staysdeep.atoms import is_lot
 from staysdeep.classes import class_size, deep_part, loose_part, same_class
 from staysdeep.cranes import Crane
 from staysdeep.errors import InvalidSize, Refused
@@ -70,18 +70,12 @@ def walk_parity(yard, one, other):
     return sum([len(ring) - 1 for ring in _rings(loose_part(yard, one), loose_part(yard, other))]) & 1
 
 
-def _is_lot_of(value, boxes):
-    """Whether any value is a lot of some of these boxes."""
-    if not isinstance(value, tuple) or not all([is_name(box) and box in boxes for box in value]):
-        return False
-    return all([before < box for before, box in zip(value, value[1:])])
-
-
 def can_turn(yard, one, other, turned):
     """Whether some walk leads from one standing to the other one and turns just these boxes."""
     need_standing(yard, one)
     need_standing(yard, other)
-    if not _is_lot_of(turned, boxes_of(one)):
+    boxes = boxes_of(one)
+    if not is_lot(turned) or not all([box in boxes for box in turned]):
         raise Refused("turned")
     if not same_class(yard, one, other):
         return False
