@@ -9,9 +9,11 @@ from functools import lru_cache
 from itertools import permutations, product
 
 from staysdeep.court import Dealt, Short
+from staysdeep.desk import Desk
 from staysdeep.dues import Crowd
 from staysdeep.errors import InvalidCommand, InvalidStanding, InvalidTimetable, InvalidYard, NoName, YardError
 from staysdeep.kinds import Given, Lacking
+from staysdeep.live import Live
 from staysdeep.standings import count_standings, standing_at
 from staysdeep.starts import Torn
 from staysdeep.yards import Yard, places
@@ -50,7 +52,7 @@ def any_values():
     """Values of all sorts, new ones with each call."""
     plain = [0, 1, -1, 2, 12, 13, 10 ** 200, True, False, None]
     plain += ["", " ", "\n", "a", "abc", "2 1 1", "0 1", "in a", "in", "out"]
-    objects = [Yard((1, 1, 1)), YardError(), InvalidYard(3), InvalidCommand(), NoName("a")]
+    objects = [Yard((1, 1, 1)), YardError(), InvalidYard(3), InvalidCommand(), NoName("a"), Live(Yard((2, 1, 1))), Desk()]
     rows = [(), [], (1,), [1], ("a",), ["a"], (0, 1), [0, 1], (True, False), (None,), ("in", "a"), (Yard((2, 1, 1)),)]
     deep = [nested(list, 30), nested(tuple, 30), ((), (), ()), ([], [], []), (("a",), ("b",), ()), [("a",), (), ()]]
     return plain + objects + rows + deep + strange_papers()

@@ -1,6 +1,5 @@
 """Point 39: how many starts and ends there are, and how few deep places need another box."""
 
-import random
 import unittest
 from functools import lru_cache
 
@@ -10,7 +9,7 @@ from staysdeep.standings import count_standings, need_standing
 from staysdeep.starts import start_stuck
 from staysdeep.yards import Yard, deep_count
 from tests.helpers import (
-    TALLEST, WRONG_TIMETABLES, all_standings, closed, names, plain_deep, plain_ends, plain_places, plain_stayers,
+    TALLEST, WRONG_TIMETABLES, all_standings, closed, names, plain_ends, plain_places, plain_stayers,
     plain_stretches,
 )
 from tests.onward import OnwardChecks, boxes_in, lying, some_onward, tall_cases

@@ -6,7 +6,7 @@ import unittest
 from staysdeep.court import Dealt, Short, check_court, court, dealings_count, kept_at, shorts, stuck_event
 from staysdeep.standings import deep_boxes
 from staysdeep.stretches import balances
-from staysdeep.yards import Yard, deep_count, places
+from staysdeep.yards import Yard, deep_count
 from tests.helpers import (
     STUCK, TALLEST, Checks, all_tables, all_timetables, any_values, busy_timetable, is_right_table, names, plain_ends,
     plain_places, plain_states, plain_stayers, plain_stretches, plain_stuck, plain_table, some_timetables,

@@ -13,7 +13,7 @@ from staysdeep.plans import plan_events
 from staysdeep.rule import leaving_order, rule_steps
 from staysdeep.yards import Yard
 from tests.helpers import (
-    STUCK, TALLEST, Checks, any_values, names, plain_ends, plain_move, plain_run, plain_states, plain_stuck,
+    TALLEST, Checks, any_values, names, plain_ends, plain_move, plain_run, plain_states, plain_stuck,
     strange_papers,
 )
 from tests.onward import boxes_in
